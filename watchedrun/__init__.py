@@ -1,0 +1,1 @@
+"""Watchedrun: programs of rows, watched by parts of their own while they run."""
