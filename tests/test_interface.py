@@ -10,6 +10,20 @@ ARGUMENTS = {
         "names_in": "(program, part)", "callers": "(program)",
     },
     "watchedrun.trees": {"is_tree": "(thing)", "made": "(tree)"},
+    "watchedrun.meaning": {"meant": "(tree, part, numbers=(), *, most=60)"},
+    "watchedrun.standings": {
+        "standings": "(program, part)", "is_sound": "(program)", "agree": "(program, part, one, other)",
+    },
+    "watchedrun.states": {"begun": "(program, part, numbers=())", "is_hook": "(program, thing)"},
+}
+
+CLASSES = {
+    "watchedrun.moments": {"Moment": ("(kind, depth, part, row, worth=None)", ("__eq__", "__str__", "__repr__"))},
+}
+
+VALUES = {
+    "watchedrun.meaning": {"MOST_SAYINGS": 60},
+    "watchedrun.moments": {"KINDS": ("call", "row", "back", "fault", "caught")},
 }
 
 
@@ -21,6 +35,20 @@ class InterfaceTest(unittest.TestCase):
                 function = getattr(importlib.import_module(module), name)
                 self.assertEqual(str(inspect.signature(function)), arguments, name)
                 self.assertEqual(function.__module__, module)
+
+    def test_classes(self):
+        for module, classes in CLASSES.items():
+            for name, (arguments, methods) in classes.items():
+                told = getattr(importlib.import_module(module), name)
+                self.assertEqual(str(inspect.signature(told)), arguments, name)
+                self.assertEqual(told.__module__, module)
+                for method in methods:
+                    self.assertIn(method, vars(told), name)
+
+    def test_values(self):
+        for module, values in VALUES.items():
+            for name, value in values.items():
+                self.assertEqual(getattr(importlib.import_module(module), name), value)
 
 
 if __name__ == "__main__":

@@ -20,6 +20,8 @@ BARRED_WORDS = (
     "Protocol", "ABC", "ABCMeta", "namedtuple", "NamedTuple", "TypedDict", "TYPE_CHECKING", "abstractmethod",
 )
 
+COMPARING = ("any", "all", "min", "max", "sum", "sorted")
+
 BARRED_NAMES = ("register", "mro", "elements", "open", "input", "law", "version_info", "with_traceback", "add_note")
 
 
@@ -78,6 +80,34 @@ class LanguageTest(unittest.TestCase):
                     self.assertNotIn("%", str(node.value), where)
                 if isinstance(node, ast.Name) and isinstance(node.ctx, ast.Load) and hasattr(builtins, node.id):
                     self.assertIn(node.id, BUILTINS, where)
+
+    def test_no_generator_expression_is_compared(self):
+        for name, text in sources():
+            for node in ast.walk(ast.parse(text)):
+                if isinstance(node, ast.Call) and isinstance(node.func, ast.Name) and node.func.id in COMPARING:
+                    for told in node.args:
+                        self.assertNotIsInstance(told, ast.GeneratorExp, (name, node.lineno))
+
+    def test_no_name_is_a_method_and_an_attribute(self):
+        methods, attributes = set(), set()
+        for _, text in sources():
+            for node in ast.walk(ast.parse(text)):
+                if isinstance(node, ast.ClassDef):
+                    methods.update(inner.name for inner in node.body if isinstance(inner, ast.FunctionDef))
+                if isinstance(node, ast.Attribute) and isinstance(node.ctx, ast.Store):
+                    attributes.add(node.attr)
+        self.assertEqual(methods & attributes, set())
+
+    def test_no_local_name_is_that_of_an_import_or_a_class(self):
+        for name, text in sources():
+            tree = ast.parse(text)
+            taken = {alias.asname or alias.name for node in tree.body if isinstance(node, ast.ImportFrom)
+                     for alias in node.names}
+            taken.update(node.name for node in tree.body if isinstance(node, ast.ClassDef))
+            for outer in ast.walk(tree):
+                if isinstance(outer, ast.FunctionDef):
+                    for node in ast.walk(outer):
+                        self.assertEqual(taken & set(names_bound(node)), set(), (name, outer.name))
 
     def test_names(self):
         for name, text in sources():
