@@ -50,3 +50,44 @@ def shown(thing):
         return repr(thing)[:500]
     except RecursionError:
         return "a very deep thing"
+
+
+def random_value(source, deep):
+    """A value at most so deep, by a source of numbers; its calls are of the tuples none, one and two."""
+    choice = source.randrange(8 if deep > 1 else 4)
+    if choice == 0:
+        return source.choice((0, 1, -1, 2, 3, -7, 10 ** 6, 10 ** 12, -10 ** 12))
+    if choice < 3:
+        return ("name", source.choice("abc"))
+    if choice == 3:
+        return ("call", "none", ())
+    if choice == 4:
+        return ("call", "one", (random_value(source, deep - 1),))
+    if choice == 5:
+        return ("call", "two", (random_value(source, deep - 1), random_value(source, deep - 1)))
+    op = source.choice(("add", "less", "times", "over", "same", "below"))
+    return (op, random_value(source, deep - 1), random_value(source, deep - 1))
+
+
+def random_sayings(source, deep, most=3):
+    """None to so many sayings, each at most so deep."""
+    return tuple(random_saying(source, deep) for _ in range(source.randrange(most + 1)))
+
+
+def random_saying(source, deep):
+    value = random_value(source, 3)
+    word = source.choice(("set", "set", "set", "say", "say", "back", "throw", "if", "while", "try", "try"))
+    if word == "set":
+        return ("set", source.choice("abc"), value)
+    if word in ("say", "back", "throw"):
+        return (word, value)
+    first = random_sayings(source, deep - 1) if deep > 1 else ()
+    second = random_sayings(source, deep - 1) if deep > 1 else ()
+    return {"if": ("if", value, first, second), "while": ("while", value, first),
+            "try": ("try", first, source.choice("abc"), second)}[word]
+
+
+def random_tree(source, deep):
+    """A tree of the tuples main (with two names), none, one and two, its sayings at most so deep."""
+    return tuple((name, names, random_sayings(source, deep, 4)) for name, names in (
+        ("main", ("a", "b")), ("none", ()), ("one", ("a",)), ("two", ("b", "c"))))

@@ -5,6 +5,7 @@ import random
 import unittest
 
 from tests.reference import run_rows
+from tests.samples import random_tree
 from watchedrun.errors import TooLong
 from watchedrun.meaning import MOST_SAYINGS, meant
 from watchedrun.trees import is_tree, made
@@ -486,44 +487,11 @@ class HandedInTest(MeaningTest):
 class ManyTreesTest(unittest.TestCase):
     """Trees put together by numbers that are the same each time: what they mean, and what their rows do."""
 
-    def value(self, source, deep):
-        choice = source.randrange(8 if deep > 1 else 4)
-        if choice == 0:
-            return source.choice((0, 1, -1, 2, 3, -7, 10 ** 6, MOST, -MOST))
-        if choice < 3:
-            return ("name", source.choice("abc"))
-        if choice == 3:
-            return call("none")
-        if choice == 4:
-            return call("one", self.value(source, deep - 1))
-        if choice == 5:
-            return call("two", self.value(source, deep - 1), self.value(source, deep - 1))
-        return (source.choice(OPS), self.value(source, deep - 1), self.value(source, deep - 1))
-
-    def sayings(self, source, deep, most=3):
-        return tuple(self.saying(source, deep) for _ in range(source.randrange(most + 1)))
-
-    def saying(self, source, deep):
-        value = self.value(source, 3)
-        word = source.choice(("set", "set", "set", "say", "say", "back", "throw", "if", "while", "try", "try"))
-        if word == "set":
-            return ("set", source.choice("abc"), value)
-        if word in ("say", "back", "throw"):
-            return (word, value)
-        first = self.sayings(source, deep - 1) if deep > 1 else ()
-        second = self.sayings(source, deep - 1) if deep > 1 else ()
-        return {"if": ("if", value, first, second), "while": ("while", value, first),
-                "try": ("try", first, source.choice("abc"), second)}[word]
-
-    def tree(self, source):
-        return tuple((name, names, self.sayings(source, 3, 4)) for name, names in (
-            ("main", ("a", "b")), ("none", ()), ("one", ("a",)), ("two", ("b", "c"))))
-
     def test_rows_say_and_end_as_the_tree_means(self):
         source = random.Random(8)
         ends = {}
         for _ in range(6000):
-            tree = self.tree(source)
+            tree = random_tree(source, 3)
             numbers = (source.randrange(-2, 3), source.randrange(-2, 3))
             try:
                 program = made(tree)

@@ -5,7 +5,7 @@ import itertools
 import random
 import unittest
 
-from tests.samples import any_things, places, put_otherwise, shown, very_deep
+from tests.samples import any_things, places, put_otherwise, random_tree, shown, very_deep
 from watchedrun.errors import TooLong
 from watchedrun.programs import is_program
 from watchedrun.trees import is_tree, made
@@ -503,38 +503,11 @@ class TooLongTest(unittest.TestCase):
 class ManyTreesTest(unittest.TestCase):
     """Trees put together by numbers that are the same each time."""
 
-    def value(self, source, deep):
-        choice = source.randrange(6 if deep > 1 else 3)
-        if choice == 0:
-            return source.randrange(-9, 10)
-        if choice == 1:
-            return ("name", source.choice("abc"))
-        if choice == 2:
-            return ("call", "none", ())
-        if choice == 3:
-            return ("call", "one", (self.value(source, deep - 1),))
-        return (source.choice(OPS), self.value(source, deep - 1), self.value(source, deep - 1))
-
-    def sayings(self, source, deep):
-        return tuple(self.saying(source, deep) for _ in range(source.randrange(3)))
-
-    def saying(self, source, deep):
-        value = self.value(source, 3)
-        word = source.choice(("set", "say", "back", "throw", "if", "while", "try"))
-        if word == "set":
-            return ("set", source.choice("abc"), value)
-        if word in ("say", "back", "throw"):
-            return (word, value)
-        first = self.sayings(source, deep - 1) if deep > 1 else ()
-        second = self.sayings(source, deep - 1) if deep > 1 else ()
-        return {"if": ("if", value, first, second), "while": ("while", value, first),
-                "try": ("try", first, "abc", second)}[word]
-
     def test_what_is_made_is_a_program(self):
         source = random.Random(20)
         made_ones = 0
-        for _ in range(1500):
-            tree = tree_of(*self.sayings(source, 4), *self.sayings(source, 4))
+        for _ in range(3000):
+            tree = random_tree(source, 4)
             self.assertIs(is_tree(tree), True)
             try:
                 program = made(tree)
