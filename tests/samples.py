@@ -91,3 +91,124 @@ def random_tree(source, deep):
     """A tree of the tuples main (with two names), none, one and two, its sayings at most so deep."""
     return tuple((name, names, random_sayings(source, deep, 4)) for name, names in (
         ("main", ("a", "b")), ("none", ()), ("one", ("a",)), ("two", ("b", "c"))))
+
+
+class RowMaker:
+    """Rows of a sound part by a source of numbers, every word among them."""
+
+    def __init__(self, source, takes, watching):
+        self.source = source
+        self.takes = takes
+        self.watching = watching
+        self.rows = []
+
+    def value(self, deep):
+        """Rows that put one number on the pile."""
+        choice = self.source.randrange(12 if deep > 0 else 6)
+        if choice < 3:
+            self.rows.append(("put", self.source.choice((0, 1, -1, 2, 3, 5, 7, -7, 10 ** 6, 10 ** 12, -10 ** 12))))
+        elif choice < 5:
+            self.rows.append(("get", self.source.choice("abk")))
+        elif choice == 5:
+            self.rows.append(("look", self.source.choice("abk")) if self.watching else ("put", 4))
+        elif choice < 9:
+            self.value(deep - 1)
+            self.value(deep - 1)
+            if choice == 8:
+                self.rows.append(("swap",))
+            self.rows.append((self.source.choice(("add", "less", "times", "over", "same", "below", "away")),))
+        elif choice == 9:
+            self.value(deep - 1)
+            self.rows.append(("twin",))
+            self.rows.append((self.source.choice(("add", "less", "times", "over", "same", "below", "away")),))
+        else:
+            called = self.source.choice(sorted(self.takes))
+            for _ in range(self.takes[called]):
+                self.value(deep - 1)
+            self.rows.append(("call", called))
+
+    def jump(self, word):
+        """A row that is to lead to a row not known yet: its place."""
+        self.rows.append((word, None))
+        return len(self.rows) - 1
+
+    def land(self, place):
+        """Let that row lead to the row that comes next."""
+        self.rows[place] = (self.rows[place][0], len(self.rows))
+
+    def some(self, deep, most):
+        for _ in range(self.source.randrange(most + 1)):
+            self.saying(deep)
+
+    def saying(self, deep):
+        """Rows behind which the pile and the guards are as ahead of them."""
+        words = ["set", "set", "say", "say", "away", "back", "throw", "if", "while", "try", "try", "lone"]
+        if self.watching:
+            words += ["change", "lead", "lead", "turn", "turn"]
+        word = self.source.choice(words)
+        if word == "try":
+            guard = self.jump("try")
+            self.some(deep - 1, 2 if deep > 0 else 0)
+            self.rows.append(("done",))
+            end = self.jump("go")
+            self.land(guard)
+            self.rows.append(("set", "k"))
+            self.some(deep - 1, 1 if deep > 0 else 0)
+            self.land(end)
+            return
+        begin = len(self.rows)
+        if word == "lead":
+            self.rows.append(("put", self.source.randrange(-1, 12)))
+        else:
+            self.value(2)
+        if word in ("set", "change"):
+            self.rows.append((word, self.source.choice("abk")))
+        elif word == "lone":
+            self.value(1)
+            self.rows.extend([("swap",), ("away",), ("away",)])
+        elif word in ("if", "while"):
+            to = self.jump("if")
+            self.some(deep - 1, 1 if deep > 0 and word == "if" else 0)
+            end = self.jump("go")
+            self.land(to)
+            self.some(deep - 1, 2 if deep > 0 else 0)
+            if word == "while":
+                self.rows.append(("go", begin))
+            self.land(end)
+        else:
+            self.rows.append((word,))
+
+
+def random_rows(source, takes, watching):
+    """The rows of a part that may call others, which take so many numbers: sound, at most sixty."""
+    while True:
+        maker = RowMaker(source, takes, watching)
+        for _ in range(source.randrange(1, 5)):
+            maker.saying(2)
+        maker.value(1)
+        maker.rows.append(("back",))
+        rows = tuple(maker.rows)
+        if len(rows) <= 60:
+            return rows
+
+
+def random_program(source):
+    """A sound program of the parts main, one, two (with so many names) and the hooks' watch and other."""
+    parts = (("main", ("a", "b")), ("one", ("a",)), ("two", ("b", "k")), ("watch", ("k", "r", "w")), ("other", ("a", "b", "k")))
+    plain = {"one": 1, "two": 2}
+    return tuple((name, names, random_rows(source, plain if name != "one" else {"two": 2, "one": 1}, len(names) == 3 or name == "two"))
+                 for name, names in parts)
+
+
+def random_hooks(source):
+    """None to four hooks of such a program."""
+    hooks = []
+    for _ in range(source.randrange(5)):
+        kinds = ["call", "row", "back", "fault", "caught"]
+        source.shuffle(kinds)
+        where = None
+        if source.randrange(2):
+            first = source.randrange(6)
+            where = (source.choice(("main", "one", "two", "watch", "other")), first, first + source.randrange(20))
+        hooks.append((source.choice(("watch", "other")), tuple(kinds[:source.randrange(1, 6)]), where))
+    return tuple(hooks)

@@ -14,15 +14,33 @@ ARGUMENTS = {
     "watchedrun.standings": {
         "standings": "(program, part)", "is_sound": "(program)", "agree": "(program, part, one, other)",
     },
+    "watchedrun.plain": {"walked": "(program, part, numbers=(), *, most=200)"},
     "watchedrun.states": {"begun": "(program, part, numbers=())", "is_hook": "(program, thing)"},
+    "watchedrun.changing": {"changed": "(program, hooks, state)"},
+    "watchedrun.tally": {"tallied": "(moments)"},
 }
 
 CLASSES = {
     "watchedrun.moments": {"Moment": ("(kind, depth, part, row, worth=None)", ("__eq__", "__str__", "__repr__"))},
+    "watchedrun.plain": {"Trace": (None, ("moments", "said", "end", "__eq__", "__len__", "__str__"))},
+    "watchedrun.watch": {"Watch": ("(program, *, hooks=())", (
+        "begin", "run", "put", "state", "hooks", "said", "end", "hook", "unhook", "listen", "deafen"))},
+    "watchedrun.tally": {"Tally": ("()", ("ear", "rows", "calls", "faults", "deepest", "__eq__", "__len__"))},
+}
+
+METHODS = {
+    "watchedrun.plain": {"Trace": {"moments": "(self)", "said": "(self)", "end": "(self)"}},
+    "watchedrun.watch": {"Watch": {
+        "begin": "(self, part, numbers=())", "run": "(self, *, most=200)", "put": "(self, state)", "state": "(self)", "hooks": "(self)",
+        "said": "(self)", "end": "(self)", "hook": "(self, hook)", "unhook": "(self, number)",
+        "listen": "(self, ear, *, kinds=('call', 'row', 'back', 'fault', 'caught'), inner=False)", "deafen": "(self, number)",
+    }},
+    "watchedrun.tally": {"Tally": {"ear": "(self)", "rows": "(self)", "calls": "(self)", "faults": "(self)", "deepest": "(self)"}},
 }
 
 VALUES = {
     "watchedrun.meaning": {"MOST_SAYINGS": 60},
+    "watchedrun.plain": {"MOST_ROWS": 200},
     "watchedrun.moments": {"KINDS": ("call", "row", "back", "fault", "caught")},
 }
 
@@ -40,10 +58,18 @@ class InterfaceTest(unittest.TestCase):
         for module, classes in CLASSES.items():
             for name, (arguments, methods) in classes.items():
                 told = getattr(importlib.import_module(module), name)
-                self.assertEqual(str(inspect.signature(told)), arguments, name)
+                if arguments is not None:
+                    self.assertEqual(str(inspect.signature(told)), arguments, name)
                 self.assertEqual(told.__module__, module)
                 for method in methods:
                     self.assertIn(method, vars(told), name)
+
+    def test_methods(self):
+        for module, classes in METHODS.items():
+            for name, methods in classes.items():
+                told = vars(getattr(importlib.import_module(module), name))
+                for method, arguments in methods.items():
+                    self.assertEqual(str(inspect.signature(told[method])), arguments, method)
 
     def test_values(self):
         for module, values in VALUES.items():

@@ -76,9 +76,14 @@ def row_at(program, part, row):
     """The row of that number, of the part of that name."""
     check_program(program)
     rows = rows_of(program, part)
-    if not is_index(row, len(rows)):
-        raise NoRow(row)
+    check_row(rows, row)
     return rows[row]
+
+
+def check_row(rows, thing):
+    """Refuse what isn't the number of one of these rows."""
+    if not is_index(thing, len(rows)):
+        raise NoRow(thing)
 
 
 def names_in(program, part):

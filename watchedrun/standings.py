@@ -1,8 +1,7 @@
 """Standings: how high the pile is and which guards are open at each row of a part, and which parts are sound."""
 
-from watchedrun.basics import is_index
-from watchedrun.errors import NoRow, Unsound
-from watchedrun.programs import check_program, place_of, rows_of
+from watchedrun.errors import Unsound
+from watchedrun.programs import check_program, check_row, place_of, rows_of
 
 BEGINNING = (0, ())
 
@@ -27,16 +26,21 @@ def standings(program, part):
 def is_sound(program):
     """Whether each part of the program is sound."""
     check_program(program)
-    return all([surveyed(program, name)[2] is None for name, names, rows in program])
+    return all([is_sound_part(program, name) for name, names, rows in program])
+
+
+def is_sound_part(program, part):
+    """Whether the part of that name is sound; the program is one."""
+    met, ahead, paper = surveyed(program, part)
+    return paper is None
 
 
 def agree(program, part, one, other):
     """Whether both rows of the part are met, with the same standing."""
     check_program(program)
-    many = len(rows_of(program, part))
-    for row in (one, other):
-        if not is_index(row, many):
-            raise NoRow(row)
+    rows = rows_of(program, part)
+    check_row(rows, one)
+    check_row(rows, other)
     met = sound_rows(program, part)
     return one in met and other in met and met[one] == met[other]
 

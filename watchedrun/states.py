@@ -1,42 +1,70 @@
 """States and their frames as data: the state with which a run begins, and what a hook is."""
 
 from watchedrun.basics import are_unlike, is_index, is_worth
-from watchedrun.errors import NoNumbers
+from watchedrun.errors import NoHook, NoNumbers
 from watchedrun.moments import KINDS
 from watchedrun.programs import MOST_PART_ROWS, check_program, place_of
 from watchedrun.standings import check_sound
 
 # A hook is told the kind, the row and the worth of the moment at which it is run.
 HOOK_NAMES = 3
+MOST_HOOKS = 4
 
 
 def begun(program, part, numbers=()):
     """The state with which a run of the part begins with these numbers."""
     check_program(program)
     check_sound(program)
+    return first_state(program, part, numbers)
+
+
+def first_state(program, part, numbers):
+    """The state with which a run of the part begins; the program is a sound one."""
     place = place_of(program, part)
-    names = program[place][1]
-    check_numbers(numbers, len(names))
-    return ((new_frame(place, names, numbers),), (), None)
+    check_numbers(numbers, len(program[place][1]))
+    return ((new_frame(program, place, numbers, None),), (), None)
 
 
 def check_numbers(thing, many):
     """Refuse what isn't so many worths in a tuple or a list."""
+    if not are_numbers(thing, many):
+        raise NoNumbers(many)
+
+
+def are_numbers(thing, many):
+    """Whether the thing is so many worths in a tuple or a list."""
     if not isinstance(thing, (tuple, list)) or len(thing) != many:
-        raise NoNumbers(many)
-    if not all([is_worth(number) for number in thing]):
-        raise NoNumbers(many)
+        return False
+    return all([is_worth(number) for number in thing])
 
 
-def new_frame(place, names, numbers):
-    """A frame of the part at that place, with its names set to the numbers, as a call begins it."""
-    known = tuple(sorted(list(zip(names, numbers))))
-    return (place, 0, (), known, (), None, ("call", None, 0))
+def new_frame(program, place, numbers, hook):
+    """A frame of the part of that number, its names set to the numbers, of that hook or None, as it begins."""
+    known = tuple(sorted(list(zip(program[place][1], numbers))))
+    return (place, 0, (), known, (), hook, ("call", None, 0))
+
+
+def check_hooks(program, thing):
+    """Refuse what isn't hooks; the program is one."""
+    if not are_hooks(program, thing):
+        raise NoHook("these are no hooks")
+
+
+def are_hooks(program, thing):
+    """Whether the thing is a tuple of none to four hooks; the program is one."""
+    if not isinstance(thing, tuple) or len(thing) > MOST_HOOKS:
+        return False
+    return all([can_hook(program, hook) for hook in thing])
 
 
 def is_hook(program, thing):
     """Whether the thing is a hook of the program."""
     check_program(program)
+    return can_hook(program, thing)
+
+
+def can_hook(program, thing):
+    """Whether the thing is a hook; the program is one."""
     if not isinstance(thing, tuple) or len(thing) != 3:
         return False
     name, kinds, where = thing
