@@ -197,3 +197,92 @@ def simple_row(frame, word, told, said):
         raise ValueError(word)
     frame.at += 1
     return None
+
+
+def check_paper(program, paper):
+    """An AssertionError where this isn't a paper of the program that holds."""
+    assert type(paper) is tuple and 3 <= len(paper) <= 5
+    word, name, *told = paper
+    assert type(word) is str and type(name) is str and name in [part[0] for part in program]
+    rows = part_of(program, name)[2]
+    lengths = {"lacks": 1, "falls": 1, "two": 2, "sound": 2, "agree": 2, "apart": 2, "unmet": 2, "run": 3}
+    assert lengths.get(word) == len(told)
+    if word in ("lacks", "falls", "two"):
+        check_unsound_paper(program, name, (word, name, *[check_row_list(one, rows) for one in told]))
+    elif word == "sound":
+        check_sound_paper(program, name, rows, *told)
+    elif word == "run":
+        check_run_paper(program, name, *told)
+    else:
+        known = all_standings(program, name)
+        assert known is not None
+        if word == "unmet":
+            check_unmet_paper(program, rows, *told)
+        else:
+            one, other = [standing_by(program, name, check_row_list(walk, rows)) for walk in told]
+            assert (one == other) is (word == "agree")
+
+
+def check_row_list(thing, rows):
+    assert type(thing) is list and all(type(row) is int and 0 <= row < len(rows) for row in thing)
+    return list(thing)
+
+
+def check_sound_paper(program, name, rows, known, walks):
+    assert type(known) is list and type(walks) is list and len(known) == len(walks) == len(rows)
+    for at, (standing, walk) in enumerate(zip(known, walks)):
+        if standing is None:
+            assert walk is None and at > 0
+            continue
+        assert check_row_list(walk, rows)[-1:] == [at]
+        assert repr(standing_by(program, name, walk)) == repr(standing)
+        led = onward(program, name, at, standing)
+        assert led is not None
+        for row, behind in led.items():
+            assert row < len(rows) and repr(known[row]) == repr(behind)
+
+
+def check_unmet_paper(program, rows, row, met):
+    check_row_list([row], rows)
+    check_row_list(met, rows)
+    assert all(one < other for one, other in zip(met, met[1:])) and 0 in met and row not in met
+    for at in met:
+        word, *told = rows[at]
+        due = set() if word in ("back", "throw", "go") else {at + 1}
+        if word in ("go", "if", "try"):
+            due.add(told[0])
+        assert all(led in met or led == len(rows) for led in due)
+
+
+def check_run_paper(program, name, worths, hooks, states):
+    from tests.machine import KINDS, Machine
+    known = {part[0]: all_standings(program, part[0]) for part in program}
+    assert None not in known.values()
+    names = {part[0]: part[1] for part in program}
+    assert type(worths) is tuple and len(worths) == len(names[name])
+    assert all(type(worth) is int and abs(worth) <= 10 ** 12 for worth in worths)
+    assert type(hooks) is tuple and len(hooks) <= 4
+    for hook in hooks:
+        assert type(hook) is tuple and len(hook) == 3
+        hooking, kinds, where = hook
+        assert type(hooking) is str and len(names.get(hooking, ())) == 3
+        assert type(kinds) is tuple and 1 <= len(kinds) <= 5 and all(kind in KINDS for kind in kinds) and len(set(kinds)) == len(kinds)
+        if where is not None:
+            assert type(where) is tuple and len(where) == 3 and type(where[0]) is str and where[0] in names
+            assert all(type(row) is int for row in where[1:]) and 0 <= where[1] <= where[2] <= 59
+    assert type(states) is list and 1 <= len(states) <= 600
+    machine = Machine(program, hooks, name, worths, known)
+    for at, state in enumerate(states):
+        if at:
+            assert machine.frames
+            machine.change()
+        assert repr(machine.state()) == repr(state)
+
+
+def paper_holds(program, paper):
+    """Whether this is a paper of the program that holds."""
+    try:
+        check_paper(program, paper)
+    except AssertionError:
+        return False
+    return True

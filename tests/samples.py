@@ -1,5 +1,9 @@
 """Things that several tests hand in, and ways to put parts of a thing otherwise."""
 
+from watchedrun.errors import TooLong
+from watchedrun.meaning import meant
+from watchedrun.trees import made
+
 
 def nested(times, kind):
     """A list or a tuple of one thing, so many deep within one another."""
@@ -91,6 +95,17 @@ def random_tree(source, deep):
     """A tree of the tuples main (with two names), none, one and two, its sayings at most so deep."""
     return tuple((name, names, random_sayings(source, deep, 4)) for name, names in (
         ("main", ("a", "b")), ("none", ()), ("one", ("a",)), ("two", ("b", "c"))))
+
+
+def random_meanings(source, many):
+    """Tuples (program, numbers, said, end): of trees made to rows, what they mean with these numbers."""
+    for _ in range(many):
+        tree = random_tree(source, 2)
+        numbers = (source.randrange(-2, 5), source.randrange(-2, 5))
+        try:
+            yield (made(tree), numbers, *meant(tree, "main", numbers))
+        except TooLong:
+            continue
 
 
 class RowMaker:

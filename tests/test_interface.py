@@ -18,6 +18,12 @@ ARGUMENTS = {
     "watchedrun.states": {"begun": "(program, part, numbers=())", "is_hook": "(program, thing)"},
     "watchedrun.changing": {"changed": "(program, hooks, state)"},
     "watchedrun.tally": {"tallied": "(moments)"},
+    "watchedrun.papers": {
+        "part_paper": "(program, part)", "rows_paper": "(program, part, one, other)",
+        "run_paper": "(program, part, numbers=(), *, hooks=(), most=40)",
+    },
+    "watchedrun.looker": {"holds": "(program, thing)"},
+    "watchedrun.texts": {"show_program": "(program)", "read_program": "(text)"},
 }
 
 CLASSES = {
@@ -26,6 +32,7 @@ CLASSES = {
     "watchedrun.watch": {"Watch": ("(program, *, hooks=())", (
         "begin", "run", "put", "state", "hooks", "said", "end", "hook", "unhook", "listen", "deafen"))},
     "watchedrun.tally": {"Tally": ("()", ("ear", "rows", "calls", "faults", "deepest", "__eq__", "__len__"))},
+    "watchedrun.desk": {"Desk": ("()", ("say",))},
 }
 
 METHODS = {
@@ -36,6 +43,7 @@ METHODS = {
         "listen": "(self, ear, *, kinds=('call', 'row', 'back', 'fault', 'caught'), inner=False)", "deafen": "(self, number)",
     }},
     "watchedrun.tally": {"Tally": {"ear": "(self)", "rows": "(self)", "calls": "(self)", "faults": "(self)", "deepest": "(self)"}},
+    "watchedrun.desk": {"Desk": {"say": "(self, text)"}},
 }
 
 VALUES = {

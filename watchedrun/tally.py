@@ -41,6 +41,16 @@ class Tally:
     def __len__(self):
         return len(self.depths)
 
+    def again(self):
+        """Another tally with the same counts, which goes on by itself."""
+        twin = Tally()
+        twin.rows_done = {key: self.rows_done[key] for key in self.rows_done}
+        twin.parts_called = {key: self.parts_called[key] for key in self.parts_called}
+        twin.faults_up = {key: self.faults_up[key] for key in self.faults_up}
+        twin.last_called = {key: self.last_called[key] for key in self.last_called}
+        twin.depths = list(self.depths)
+        return twin
+
     def count_moment(self, moment):
         """Count one moment."""
         self.depths.append(moment.depth)
