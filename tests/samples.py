@@ -209,9 +209,11 @@ def random_rows(source, takes, watching):
 
 def random_program(source):
     """A sound program of the parts main, one, two (with so many names) and the hooks' watch and other."""
-    parts = (("main", ("a", "b")), ("one", ("a",)), ("two", ("b", "k")), ("watch", ("k", "r", "w")), ("other", ("a", "b", "k")))
+    parts = (("main", ("a", "b")), ("one", ("a",)), ("two", ("b", "k")), ("watch", ("k", "r", "w")),
+             ("other", ("a", "b", "k")))
     plain = {"one": 1, "two": 2}
-    return tuple((name, names, random_rows(source, plain if name != "one" else {"two": 2, "one": 1}, len(names) == 3 or name == "two"))
+    return tuple((name, names, random_rows(source, plain if name != "one" else {"two": 2, "one": 1},
+                                           len(names) == 3 or name == "two"))
                  for name, names in parts)
 
 

@@ -92,12 +92,17 @@ class RowTest(StateTest):
 
     def test_ops(self):
         for op, one, other, worth in (
-            ("add", 2, 3, 5), ("add", -2, -3, -5), ("less", 2, 3, -1), ("less", 3, 2, 1), ("times", -2, 3, -6), ("times", 4, 0, 0),
-            ("over", 7, 2, 3), ("over", -7, 2, -4), ("over", 7, -2, -4), ("over", -7, -2, 3), ("over", 6, -2, -3), ("over", 0, -5, 0),
-            ("same", 2, 2, 1), ("same", 2, 3, 0), ("below", 2, 3, 1), ("below", 3, 2, 0), ("below", 2, 2, 0), ("below", -3, -2, 1),
-            ("add", MOST, 0, MOST), ("add", MOST - 1, 1, MOST), ("add", -MOST + 1, -1, -MOST), ("less", MOST - 1, -1, MOST),
+            ("add", 2, 3, 5), ("add", -2, -3, -5), ("less", 2, 3, -1), ("less", 3, 2, 1), ("times", -2, 3, -6),
+            ("times", 4, 0, 0),
+            ("over", 7, 2, 3), ("over", -7, 2, -4), ("over", 7, -2, -4), ("over", -7, -2, 3), ("over", 6, -2, -3),
+            ("over", 0, -5, 0),
+            ("same", 2, 2, 1), ("same", 2, 3, 0), ("below", 2, 3, 1), ("below", 3, 2, 0), ("below", 2, 2, 0),
+            ("below", -3, -2, 1),
+            ("add", MOST, 0, MOST), ("add", MOST - 1, 1, MOST), ("add", -MOST + 1, -1, -MOST),
+            ("less", MOST - 1, -1, MOST),
             ("less", -MOST + 1, 1, -MOST), ("times", 10 ** 6, 10 ** 6, MOST), ("times", 10 ** 6, -10 ** 6, -MOST),
-            ("over", MOST, 1, MOST), ("over", MOST, -1, -MOST), ("over", -MOST, -1, MOST), ("over", -1, MOST, -1), ("over", 1, MOST, 0),
+            ("over", MOST, 1, MOST), ("over", MOST, -1, -MOST), ("over", -MOST, -1, MOST), ("over", -1, MOST, -1),
+            ("over", 1, MOST, 0),
         ):
             self.frame_behind((one, other), (op,), (worth,))
             self.frame_behind((8, 9, one, other), (op,), (8, 9, worth))
@@ -105,11 +110,14 @@ class RowTest(StateTest):
     def test_ops_with_faults(self):
         for op, one, other, number in (
             ("over", 1, 0, -1), ("over", 0, 0, -1), ("over", MOST, 0, -1), ("over", -MOST, 0, -1),
-            ("add", MOST, 1, -2), ("add", 1, MOST, -2), ("add", -MOST, -1, -2), ("less", MOST, -1, -2), ("less", -MOST, 1, -2),
-            ("times", 10 ** 6, 10 ** 6 + 1, -2), ("times", -10 ** 6 - 1, 10 ** 6, -2), ("times", MOST, MOST, -2), ("times", MOST, -2, -2),
+            ("add", MOST, 1, -2), ("add", 1, MOST, -2), ("add", -MOST, -1, -2), ("less", MOST, -1, -2),
+            ("less", -MOST, 1, -2),
+            ("times", 10 ** 6, 10 ** 6 + 1, -2), ("times", -10 ** 6 - 1, 10 ** 6, -2), ("times", MOST, MOST, -2),
+            ("times", MOST, -2, -2),
         ):
             self.frame_behind((one, other), (op,), (one, other), at=2, moment=("fault", number, 0))
-            self.frame_behind((8, one, other), (op,), (8, one, other), names=(("a", 3),), at=3, moment=("fault", number, 0))
+            self.frame_behind((8, one, other), (op,), (8, one, other), names=(("a", 3),), at=3,
+                              moment=("fault", number, 0))
 
     def test_twin_swap_away_say(self):
         self.frame_behind((1, 2), ("twin",), (1, 2, 2))
@@ -136,7 +144,8 @@ class RowTest(StateTest):
         self.frame_behind((7, 5), ("if", 1), (7,), at=1)
 
     def test_try_and_done(self):
-        program = program_of(("put", 4), ("try", 8), ("put", 5), ("try", 10), ("done",), ("done",), ("put", 6), ("back",),
+        program = program_of(("put", 4), ("try", 8), ("put", 5), ("try", 10), ("done",), ("done",), ("put", 6),
+                             ("back",),
                              ("away",), ("back",), ("back",))
         for rows, pile, guards in (
             (1, (4,), ()), (2, (4,), ((8, 1),)), (3, (4, 5), ((8, 1),)), (4, (4, 5), ((8, 1), (10, 2))),
@@ -208,7 +217,8 @@ class FaultTest(StateTest):
 
     def test_each_fault_without_a_guard_and_under_one_and_two(self):
         for rows, number in (
-            ((("put", 1), ("put", 0), ("over",)), -1), ((("put", MOST), ("twin",), ("add",)), -2), ((("get", "z"),), -3),
+            ((("put", 1), ("put", 0), ("over",)), -1), ((("put", MOST), ("twin",), ("add",)), -2),
+            ((("get", "z"),), -3),
             ((("look", "z"),), -5), ((("put", 0), ("change", "z")), -5), ((("put", 0), ("lead",)), -5),
             ((("put", 0), ("turn",)), -5), ((("put", 44), ("throw",)), 44), ((("put", 0), ("throw",)), 0),
             ((("put", -4), ("throw",)), -4),
@@ -229,7 +239,8 @@ class FaultTest(StateTest):
         self.check(states[1], ((top[:6] + (("caught", number, 0),),), (), None))
         self.check(states[2], (((0, taker, (8, number), (), (), None, ROW),), (), None))
         inner = taker + 2
-        two = program_of(("put", 8), ("try", inner + 1), ("put", 7), ("try", inner), ("put", 6), *rows, *END, ("throw",), ("back",))
+        two = program_of(("put", 8), ("try", inner + 1), ("put", 7), ("try", inner), ("put", 6), *rows, *END,
+                         ("throw",), ("back",))
         self.assertTrue(is_sound(two))
         states = self.states_of(two)
         self.check(states[-1], (((0, inner, (8, 7, number), (), ((inner + 1, 1),), None, ROW),), (), None))
@@ -238,12 +249,14 @@ class FaultTest(StateTest):
         self.check(changes(two, (), state, 2), (((0, inner + 1, (8, number), (), (), None, ROW),), (), None))
 
     def test_out_of_a_part_that_was_called(self):
-        called = (("one", ("a",), (("put", 3), ("put", 4), ("throw",))), ("two", (), (("put", 6), ("call", "one"), ("back",))))
+        called = (("one", ("a",), (("put", 3), ("put", 4), ("throw",))), ("two", (), (("put", 6), ("call", "one"),
+                                                                                      ("back",))))
         program = program_of(("put", 8), ("try", 5), ("put", 7), ("call", "two"), ("back",), ("back",), more=called)
         states = self.states_of(program)
         bottom = (0, 3, (8, 7), (), ((5, 1),), None)
         self.check(states, [
-            ((bottom + (None,), (2, 1, (), (), (), None, None), (1, 2, (3, 4), (("a", 6),), (), None, ("fault", 4, 0))), (), None),
+            ((bottom + (None,), (2, 1, (), (), (), None, None), (1, 2, (3, 4), (("a", 6),), (), None, ("fault", 4,
+                                                                                                       0))), (), None),
             ((bottom + (None,), (2, 1, (), (), (), None, ("fault", 4, 0))), (), None),
             ((bottom + (("fault", 4, 0),),), (), None),
             ((bottom + (("caught", 4, 0),),), (), None),
@@ -264,7 +277,8 @@ class FaultTest(StateTest):
 WATCHED = (("put", 5), ("set", "a"), ("get", "a"), ("call", "sub"), ("back",))
 SUB = ("sub", ("x",), (("get", "x"), ("back",)))
 QUIET = ("quiet", ("kind", "row", "worth"), END)
-LOUD = ("loud", ("kind", "row", "worth"), (("get", "kind"), ("say",), ("get", "row"), ("say",), ("get", "worth"), ("say",), *END))
+LOUD = ("loud", ("kind", "row", "worth"), (("get", "kind"), ("say",), ("get", "row"), ("say",), ("get", "worth"),
+                                           ("say",), *END))
 PROGRAM = (("main", ("n",), WATCHED), SUB, QUIET, LOUD)
 
 
@@ -308,7 +322,8 @@ class HookTest(StateTest):
             name = program[place][0]
             plain = changed(program, (), state)
             for first, last, fits in (
-                (0, 59, True), (at, at, True), (0, at, True), (at, 59, True), (at + 1, 59, False), (0, max(at - 1, 0), at == 0),
+                (0, 59, True), (at, at, True), (0, at, True), (at, 59, True), (at + 1, 59, False),
+                (0, max(at - 1, 0), at == 0),
                 (max(at - 1, 0), at + 1, True), (59, 59, False),
             ):
                 hooks = (("quiet", KINDS, (name, first, last)),)
@@ -328,7 +343,8 @@ class HookTest(StateTest):
             yes, no = ("quiet", (kind,), None), ("loud", others, None)
             loud = ("loud", (kind,), None)
             for hooks, run in (
-                ((yes, loud), (0, 1)), ((no, yes), (1,)), ((yes, no), (0,)), ((no, no), ()), ((yes, loud, yes, loud), (0, 1, 2, 3)),
+                ((yes, loud), (0, 1)), ((no, yes), (1,)), ((yes, no), (0,)), ((no, no), ()),
+                ((yes, loud, yes, loud), (0, 1, 2, 3)),
                 ((no, yes, no, loud), (1, 3)), ((no, no, no, yes), (3,)), ((no, no, no, no), ()),
             ):
                 here = state
@@ -346,7 +362,8 @@ class HookTest(StateTest):
         top = frames[-1]
         self.begins(PROGRAM, hooks, (frames, said, end), 0)
         self.begins(PROGRAM, hooks, ((top[:6] + (("row", None, 1),),), said, end), 1)
-        self.check(changed(PROGRAM, hooks, ((top[:6] + (("row", None, 2),),), said, end)), changed(PROGRAM, (), (frames, said, end)))
+        self.check(changed(PROGRAM, hooks, ((top[:6] + (("row", None, 2),),), said, end)),
+                   changed(PROGRAM, (), (frames, said, end)))
 
     def test_a_hook_says_what_it_is_told(self):
         hooks = (("loud", ("call", "row", "back"), ("sub", 0, 59)),)
@@ -437,7 +454,8 @@ class HookTest(StateTest):
         self.assertEqual(state, ((), (3, 1, 66, 3, 0, 66), ("fault", 66)))
 
     def test_a_guard_of_the_hook_takes_its_fault(self):
-        program = (("main", (), END), ("taking", ("k", "r", "w"), (("try", 3), ("put", 66), ("throw",), ("say",), *END)))
+        program = (("main", (), END), ("taking", ("k", "r", "w"), (("try", 3), ("put", 66), ("throw",), ("say",),
+                                                                   *END)))
         hooks = (("taking", ("row",), None),)
         state = begun(program, "main", ())
         while state[0]:
@@ -481,7 +499,8 @@ class WatchingTest(StateTest):
 
     def test_look(self):
         for number in (0, 7, -MOST):
-            told = self.end_of((("get", "n"), ("back",)), (("look", "n"), ("say",), *END), self.at(0), numbers=(number,))
+            told = self.end_of((("get", "n"), ("back",)), (("look", "n"), ("say",), *END), self.at(0),
+                               numbers=(number,))
             self.assertEqual(told, ((number,), ("back", number)))
 
     def test_look_of_a_name_that_is_not_set(self):
@@ -507,7 +526,8 @@ class WatchingTest(StateTest):
         self.check(state[0][0], (0, 2, (3,), (("b", 9), ("n", 7), ("z", 8)), ((4, 1),), None, ("row", None, 1)))
 
     def test_change_takes_its_number(self):
-        program = (("main", (), END), ("hooking", ("k", "r", "w"), (("put", 1), ("put", 9), ("change", "b"), ("back",))))
+        program = (("main", (), END), ("hooking", ("k", "r", "w"), (("put", 1), ("put", 9), ("change", "b"),
+                                                                    ("back",))))
         hooks = (("hooking", ("row",), ("main", 0, 0)),)
         state = due(program, "main", (), 3, hooks)
         self.check(state[0][1], (1, 3, (1,), (("k", 1), ("r", 0), ("w", 0)), (), 0, ROW))
@@ -521,8 +541,10 @@ class WatchingTest(StateTest):
             self.assertEqual(told, ((), ("back", 1) if row == 0 else ("fault", -6)), row)
         main = (("get", "n"), ("if", 4), ("put", 2), ("back",), ("put", 3), ("throw",))
         for at, row, end in (
-            (0, 0, ("back", 2)), (0, 1, -6), (0, 2, ("back", 2)), (0, 3, -6), (0, 4, ("fault", 3)), (0, 5, -6), (0, 6, -6),
-            (0, -1, -6), (0, 59, -6), (0, MOST, -6), (0, -MOST, -6), (3, 5, ("fault", 2)), (3, 3, ("back", 2)), (3, 0, -6),
+            (0, 0, ("back", 2)), (0, 1, -6), (0, 2, ("back", 2)), (0, 3, -6), (0, 4, ("fault", 3)), (0, 5, -6),
+            (0, 6, -6),
+            (0, -1, -6), (0, 59, -6), (0, MOST, -6), (0, -MOST, -6), (3, 5, ("fault", 2)), (3, 3, ("back", 2)),
+            (3, 0, -6),
             (2, 4, ("fault", 3)), (2, 2, ("back", 2)), (2, 3, -6), (1, 0, -6), (1, 1, ("back", 2)), (1, 3, ("back", 0)),
         ):
             told = self.end_of(main, (("put", row), ("lead",), *END), self.at(at), numbers=(0,))
@@ -531,13 +553,16 @@ class WatchingTest(StateTest):
     def test_lead_back_rings(self):
         """A row that is due again is watched again: the hook leads back as long as the name tells it to."""
         main = (("get", "n"), ("say",), ("put", 0), ("back",))
-        watching = (("look", "n"), ("if", 4), *END, ("look", "n"), ("put", 1), ("less",), ("change", "n"), ("put", 0), ("lead",), *END)
+        watching = (("look", "n"), ("if", 4), *END, ("look", "n"), ("put", 1), ("less",), ("change", "n"), ("put", 0),
+                    ("lead",), *END)
         self.assertEqual(self.end_of(main, watching, self.at(2), numbers=(3,)), ((3, 2, 1, 0), ("back", 0)))
 
     def test_lead_asks_guards_and_heights(self):
-        main = (("put", 1), ("try", 8), ("put", 2), ("done",), ("away",), ("put", 5), ("away",), ("back",), ("away",), ("back",))
+        main = (("put", 1), ("try", 8), ("put", 2), ("done",), ("away",), ("put", 5), ("away",), ("back",), ("away",),
+                ("back",))
         for at, row, agrees in (
-            (3, 3, True), (3, 2, False), (4, 3, False), (4, 6, True), (4, 8, True), (5, 1, True), (2, 5, False), (5, 7, True), (5, 9, True),
+            (3, 3, True), (3, 2, False), (4, 3, False), (4, 6, True), (4, 8, True), (5, 1, True), (2, 5, False),
+            (5, 7, True), (5, 9, True),
             (6, 8, True), (3, 4, False), (3, 6, False), (3, 8, False), (2, 1, False), (2, 7, False),
         ):
             program = (("main", (), main), ("hooking", ("k", "r", "w"), (("put", row), ("lead",), *END)))
@@ -551,7 +576,8 @@ class WatchingTest(StateTest):
             self.assertEqual(state[0][1][6], ROW if agrees else ("fault", -6, 0), (at, row))
 
     def test_lead_at_other_kinds_is_refused(self):
-        main = (("try", 5), ("put", 2), ("throw",), ("put", 0), ("back",), ("away",), ("put", 0), ("call", "sub"), ("back",))
+        main = (("try", 5), ("put", 2), ("throw",), ("put", 0), ("back",), ("away",), ("put", 0), ("call", "sub"),
+                ("back",))
         for kind in ("call", "fault", "caught", "back"):
             taking = (("try", 6), ("get", "r"), ("lead",), ("done",), ("put", 0), ("back",), ("say",), *END)
             told = self.end_of(main, taking, self.at(0, 59, (kind,)), more=(SUB,))
@@ -601,7 +627,8 @@ class WatchingTest(StateTest):
         self.assertEqual(told, ((0,), ("back", 8)))
         turning = ("sub", (), (("call", "deep"), ("back",)))
         deep = ("deep", (), (("put", 4), ("turn",), *END))
-        told = self.end_of(main, (("call", "sub"), ("back",)), self.at(0, 59, ("back",)), more=(turning, deep), numbers=(0,))
+        told = self.end_of(main, (("call", "sub"), ("back",)), self.at(0, 59, ("back",)), more=(turning, deep),
+                           numbers=(0,))
         self.assertEqual(told, ((), ("back", 4)))
 
     def test_a_part_called_by_none_of_a_hook_watches_nothing(self):

@@ -71,28 +71,38 @@ class DeskTest(unittest.TestCase):
         self.assertEqual(answers(desk), ahead)
 
     def test_a_new_desk(self):
-        self.says(Desk(), ("show", FIRST), ("said", "-"), ("end", "none"), ("at", "-"), ("pile", "-"), ("count", "-"), ("run 5", "0"),
-                  ("run 500", "0"), ("end", "none"), ("agree main 0 0", "yes"), ("agree main 0 1", "no"), ("begin main", "ok"), ("end", "going"),
-                  ("at", "main:0"), ("pile", "-"), ("count", "-"), ("run 0", "0"), ("count", "-"), ("run 1", "1"), ("at", "main:1"), ("pile", "0"),
-                  ("count", "main:0:1"), ("run 9", "1"), ("end", "back 0"), ("at", "-"), ("pile", "-"), ("count", "main:0:1 main:1:1"), ("said", "-"))
+        self.says(Desk(), ("show", FIRST), ("said", "-"), ("end", "none"), ("at", "-"), ("pile", "-"), ("count", "-"),
+                  ("run 5", "0"),
+                  ("run 500", "0"), ("end", "none"), ("agree main 0 0", "yes"), ("agree main 0 1", "no"),
+                  ("begin main", "ok"), ("end", "going"),
+                  ("at", "main:0"), ("pile", "-"), ("count", "-"), ("run 0", "0"), ("count", "-"), ("run 1", "1"),
+                  ("at", "main:1"), ("pile", "0"),
+                  ("count", "main:0:1"), ("run 9", "1"), ("end", "back 0"), ("at", "-"), ("pile", "-"),
+                  ("count", "main:0:1 main:1:1"), ("said", "-"))
 
     def test_a_run(self):
         desk = desk_of()
-        self.says(desk, ("show", TEXT), ("begin main 0", "ok"), ("run 3", "3"), ("at", "main:2 sub:0"), ("pile", "-"), ("run 1", "1"), ("pile", "0"),
-                  ("at", "main:2 sub:1"), ("run 3", "3"), ("at", "main:5"), ("pile", "7"), ("said", "-"), ("run 1", "1"), ("said", "7"),
+        self.says(desk, ("show", TEXT), ("begin main 0", "ok"), ("run 3", "3"), ("at", "main:2 sub:0"), ("pile", "-"),
+                  ("run 1", "1"), ("pile", "0"),
+                  ("at", "main:2 sub:1"), ("run 3", "3"), ("at", "main:5"), ("pile", "7"), ("said", "-"),
+                  ("run 1", "1"), ("said", "7"),
                   ("end", "going"), ("run 500", "2"), ("end", "back 0"), ("at", "-"), ("pile", "-"), ("run 500", "0"),
                   ("count", "main:0:1 main:1:1 main:2:1 main:5:1 main:6:1 main:7:1 sub:0:1 sub:1:1 sub:2:1 sub:3:1"),
-                  ("begin sub 0", "ok"), ("said", "-"), ("count", "-"), ("end", "going"), ("run 9", "4"), ("end", "fault 7"),
-                  ("begin sub -12", "ok"), ("run 9", "4"), ("end", "back -12"), ("begin none", "ok"), ("run 3", "3"), ("pile", "1 2 -3"))
+                  ("begin sub 0", "ok"), ("said", "-"), ("count", "-"), ("end", "going"), ("run 9", "4"),
+                  ("end", "fault 7"),
+                  ("begin sub -12", "ok"), ("run 9", "4"), ("end", "back -12"), ("begin none", "ok"), ("run 3", "3"),
+                  ("pile", "1 2 -3"))
 
     def test_count_is_sorted_by_numbers(self):
         text = "part main\n" + "\n".join(f"{at:02d} go {at + 1}" for at in range(11)) + "\n11 put 0\n12 back"
-        self.says(desk_of(text), ("begin main", "ok"), ("run 20", "13"), ("count", " ".join(f"main:{at}:1" for at in range(13))))
+        self.says(desk_of(text), ("begin main", "ok"), ("run 20", "13"),
+                  ("count", " ".join(f"main:{at}:1" for at in range(13))))
 
     def test_program(self):
         desk = desk_of(TEXT, "hook watch row", "begin main 0", "run 9", "mark a")
         self.assertNotEqual(desk.say("said"), "-")
-        self.says(desk, ("program\n" + TEXT, "ok"), ("said", "-"), ("end", "none"), ("at", "-"), ("pile", "-"), ("count", "-"), ("show", TEXT))
+        self.says(desk, ("program\n" + TEXT, "ok"), ("said", "-"), ("end", "none"), ("at", "-"), ("pile", "-"),
+                  ("count", "-"), ("show", TEXT))
         self.refuses(desk, "back a", NoMark, name="a")
         self.refuses(desk, "unhook 0", NoHook)
         self.says(desk, ("program\n" + FIRST, "ok"), ("show", FIRST))
@@ -100,17 +110,22 @@ class DeskTest(unittest.TestCase):
 
     def test_program_with_worths_by_sixteens(self):
         desk = desk_of("part main\n00 put -x1f\n01 back")
-        self.says(desk, ("show", "part main\n00 put -31\n01 back"), ("begin main", "ok"), ("run 2", "2"), ("end", "back -31"))
+        self.says(desk, ("show", "part main\n00 put -31\n01 back"), ("begin main", "ok"), ("run 2", "2"),
+                  ("end", "back -31"))
 
     def test_programs_that_are_refused(self):
         for desk in (Desk(), desk_of(TEXT, "hook watch row", "begin main 0", "run 5", "mark a")):
-            for text, at in (("", 0), ("part", 0), ("part a", 1), ("part a\n01 back", 1), ("part a\n00 back\n", 2), ("part a\n00 back\npart b", 3), ("\n", 0),
+            for text, at in (("", 0), ("part", 0), ("part a", 1), ("part a\n01 back", 1), ("part a\n00 back\n", 2),
+                             ("part a\n00 back\npart b", 3), ("\n", 0),
                              ("program\npart a\n00 put 0\n01 back", 0)):
                 self.refuses(desk, "program\n" + text, NoText, at=at)
-            for text in ("part a b c d e\n00 back", "part a\n00 call b", "part a\n00 go 7", f"part a\n00 put {10 ** 13}"):
+            for text in ("part a b c d e\n00 back", "part a\n00 call b", "part a\n00 go 7",
+                         f"part a\n00 put {10 ** 13}"):
                 self.refuses(desk, "program\n" + text, NoProgram)
-            self.refuses(desk, "program\npart a\n00 put 0\n01 back\npart b\n00 put 0\n01 add\npart c\n00 away", Unsound, part="b", paper=("lacks", "b", [0, 1]))
-            for text in ("program", "program ", "program x", "program \n" + FIRST, " program\n" + FIRST, "program x\n" + FIRST, "Program\n" + FIRST,
+            self.refuses(desk, "program\npart a\n00 put 0\n01 back\npart b\n00 put 0\n01 add\npart c\n00 away",
+                         Unsound, part="b", paper=("lacks", "b", [0, 1]))
+            for text in ("program", "program ", "program x", "program \n" + FIRST, " program\n" + FIRST,
+                         "program x\n" + FIRST, "Program\n" + FIRST,
                          "programs\n" + FIRST, "\nprogram\n" + FIRST, "program" + FIRST, "show\nprogram\n" + FIRST):
                 self.refuses(desk, text, NoWord)
 
@@ -119,14 +134,17 @@ class DeskTest(unittest.TestCase):
         text = "\n".join(f"part {chr(97 + at) * 8} aaaaaaaa bbbbbbbb cccccccc\n{rows}" for at in range(8))
         self.assertGreater(len(text), 9000)
         desk = desk_of(text)
-        self.says(desk, ("show", text), ("begin hhhhhhhh 1 2 3", "ok"), ("run 500", "60"), ("end", "back -999999990058"))
+        self.says(desk, ("show", text), ("begin hhhhhhhh 1 2 3", "ok"), ("run 500", "60"),
+                  ("end", "back -999999990058"))
 
     def test_hooks(self):
         desk = desk_of()
-        self.says(desk, ("hook watch row", "0"), ("hook watch row,back,call main 1 2", "1"), ("hook watch fault sub 0 59", "2"),
+        self.says(desk, ("hook watch row", "0"), ("hook watch row,back,call main 1 2", "1"),
+                  ("hook watch fault sub 0 59", "2"),
                   ("hook watch caught,fault,back,row,call", "3"))
         self.refuses(desk, "hook watch row", TooMany)
-        self.says(desk, ("unhook 1", "ok"), ("hook watch call none 3 3", "3"), ("unhook 0", "ok"), ("unhook 0", "ok"), ("unhook 0", "ok"))
+        self.says(desk, ("unhook 1", "ok"), ("hook watch call none 3 3", "3"), ("unhook 0", "ok"), ("unhook 0", "ok"),
+                  ("unhook 0", "ok"))
         self.says(desk, ("unhook 0", "ok"))
         self.refuses(desk, "unhook 0", NoHook)
 
@@ -134,7 +152,8 @@ class DeskTest(unittest.TestCase):
         desk = desk_of(TEXT, "hook watch row main 1 2")
         self.says(desk, ("begin main 5", "ok"), ("run 500", "17"), ("said", "1 2"), ("end", "back 5"),
                   ("count", "main:0:1 main:1:1 main:2:1 main:3:1 main:4:1 sub:0:1 sub:1:1 sub:4:1 sub:5:1"))
-        self.says(desk, ("begin main 5", "ok"), ("run 1", "1"), ("at", "main:1 watch:0"), ("run 1", "1"), ("pile", "1"), ("count", "main:0:1"))
+        self.says(desk, ("begin main 5", "ok"), ("run 1", "1"), ("at", "main:1 watch:0"), ("run 1", "1"),
+                  ("pile", "1"), ("count", "main:0:1"))
         self.refuses(desk, "hook watch row", Busy)
         self.refuses(desk, "unhook 0", Busy)
         self.refuses(desk, "unhook 7", Busy)
@@ -142,38 +161,53 @@ class DeskTest(unittest.TestCase):
 
     def test_refusals_of_hooks(self):
         desk = desk_of(TEXT, "hook watch row", "begin main 0", "mark a")
-        for row in ("hook main row", "hook none row", "hook sub row main 0 1", "hook watch row main 2 1", "hook watch row main 0 60", "hook watch row main 60 60",
+        for row in ("hook main row", "hook none row", "hook sub row main 0 1", "hook watch row main 2 1",
+                    "hook watch row main 0 60", "hook watch row main 60 60",
                     f"hook watch row main 0 {'9' * 40}", "unhook 1", f"unhook {'9' * 40}", "unhook 4"):
             self.refuses(desk, row, NoHook)
-        for row, name in (("hook nobody row", "nobody"), ("hook  row", ""), ("hook watch row nobody 0 1", "nobody"), ("hook one row two 0 1", "one"),
-                          ("hook watch row  0 1", ""), ("hook A-b! row", "A-b!"), ("hook watch row Main 9 0", "Main"), ("hook nobody row main 9 0", "nobody")):
+        for row, name in (("hook nobody row", "nobody"), ("hook  row", ""), ("hook watch row nobody 0 1", "nobody"),
+                          ("hook one row two 0 1", "one"),
+                          ("hook watch row  0 1", ""), ("hook A-b! row", "A-b!"), ("hook watch row Main 9 0", "Main"),
+                          ("hook nobody row main 9 0", "nobody")):
             self.refuses(desk, row, NoPart, name=name)
-        for row in ("hook watch", "hook", "hook watch row main", "hook watch row main 0", "hook watch row main 0 1 2", "hook watch rows", "hook watch ",
-                    "hook watch row,row", "hook watch row,", "hook watch ,row", "hook watch row, back", "hook watch Row", "hook nobody rows", "hook watch row;back",
-                    "hook watch row main a 1", "hook watch row main 0 -1", "hook watch row main -1 0", "hook watch row main 00 1", "hook watch row main 0 x1",
-                    f"hook watch row main 0 {'9' * 41}", "hook watch row main 0 1 ", "hook watch row ", "hook nobody row nobody 0 01", "unhook", "unhook ", "unhook a",
-                    "unhook -1", "unhook 01", "unhook 0 1", "unhook x0", "unhook 0 ", "unhook  0", "hook watch row\n", "hook nobody\nrow", "hook watch call,row,back,fault,caught,call"):
+        for row in ("hook watch", "hook", "hook watch row main", "hook watch row main 0", "hook watch row main 0 1 2",
+                    "hook watch rows", "hook watch ",
+                    "hook watch row,row", "hook watch row,", "hook watch ,row", "hook watch row, back",
+                    "hook watch Row", "hook nobody rows", "hook watch row;back",
+                    "hook watch row main a 1", "hook watch row main 0 -1", "hook watch row main -1 0",
+                    "hook watch row main 00 1", "hook watch row main 0 x1",
+                    f"hook watch row main 0 {'9' * 41}", "hook watch row main 0 1 ", "hook watch row ",
+                    "hook nobody row nobody 0 01", "unhook", "unhook ", "unhook a",
+                    "unhook -1", "unhook 01", "unhook 0 1", "unhook x0", "unhook 0 ", "unhook  0", "hook watch row\n",
+                    "hook nobody\nrow", "hook watch call,row,back,fault,caught,call"):
             self.refuses(desk, row, NoWord)
         self.says(desk, ("back a", "ok"), ("unhook 0", "ok"))
 
     def test_begin(self):
         desk = desk_of(TEXT, "begin main 3", "run 2", "mark a")
-        for row, many in (("begin main", 1), ("begin main 1 2", 1), ("begin none 0", 0), ("begin watch 1 2", 3), (f"begin main {10 ** 12 + 1}", 1),
+        for row, many in (("begin main", 1), ("begin main 1 2", 1), ("begin none 0", 0), ("begin watch 1 2", 3),
+                          (f"begin main {10 ** 12 + 1}", 1),
                           (f"begin main -{'9' * 40}", 1), ("begin watch 1 2 3 4 5 6 7 8", 3)):
             self.refuses(desk, row, NoNumbers, many=many)
-        for row, name in (("begin nobody", "nobody"), ("begin ", ""), ("begin nobody 1 2", "nobody"), ("begin  1", ""), ("begin MAIN 1", "MAIN"),
+        for row, name in (("begin nobody", "nobody"), ("begin ", ""), ("begin nobody 1 2", "nobody"), ("begin  1", ""),
+                          ("begin MAIN 1", "MAIN"),
                           ("begin main: 3", "main:"), ("begin 5", "5"), ("begin abcdefghi", "abcdefghi")):
             self.refuses(desk, row, NoPart, name=name)
-        for row in ("begin", "begin main x1", "begin main a", "begin main 1 ", "begin main  1", "begin main 01", "begin main -0", "begin nobody a", "begin main +1",
-                    f"begin main {'9' * 41}", "begin main 1\n", "begin\nmain 1", " begin main 1", "Begin main 1", "begin main --1", "begin main -"):
+        for row in ("begin", "begin main x1", "begin main a", "begin main 1 ", "begin main  1", "begin main 01",
+                    "begin main -0", "begin nobody a", "begin main +1",
+                    f"begin main {'9' * 41}", "begin main 1\n", "begin\nmain 1", " begin main 1", "Begin main 1",
+                    "begin main --1", "begin main -"):
             self.refuses(desk, row, NoWord)
-        self.says(desk, (f"begin main {10 ** 12}", "ok"), ("run 4", "4"), ("pile", str(10 ** 12)), (f"begin watch -1 0 {-10 ** 12}", "ok"), ("run 500", "4"),
+        self.says(desk, (f"begin main {10 ** 12}", "ok"), ("run 4", "4"), ("pile", str(10 ** 12)),
+                  (f"begin watch -1 0 {-10 ** 12}", "ok"), ("run 500", "4"),
                   ("said", "0"))
 
     def test_run(self):
         desk = desk_of("part main\n00 put 3\n01 say\n02 go 0", "begin main")
-        self.says(desk, ("run 0", "0"), ("run 1", "1"), ("run 499", "499"), ("run 500", "500"), ("end", "going"), ("count", "main:0:334 main:1:333 main:2:333"))
-        for row in ("run", "run ", "run a", "run -1", "run 501", "run 1000", f"run {'9' * 40}", f"run {'9' * 41}", "run 01", "run 5 5", "run 5 ", "run x5", "run 5\n", "run  5"):
+        self.says(desk, ("run 0", "0"), ("run 1", "1"), ("run 499", "499"), ("run 500", "500"), ("end", "going"),
+                  ("count", "main:0:334 main:1:333 main:2:333"))
+        for row in ("run", "run ", "run a", "run -1", "run 501", "run 1000", f"run {'9' * 40}", f"run {'9' * 41}",
+                    "run 01", "run 5 5", "run 5 ", "run x5", "run 5\n", "run  5"):
             self.refuses(desk, row, NoWord)
 
     def test_marks(self):
@@ -198,9 +232,12 @@ class DeskTest(unittest.TestCase):
         self.says(desk, ("end", "none"), ("at", "-"), ("count", "-"), ("run 5", "0"))
 
     def test_the_tally_that_back_puts_back(self):
-        desk = desk_of("part main\n00 put 3\n01 say\n02 go 0", "begin main", "run 4", "mark a", "run 100", "mark b", "back a")
-        self.says(desk, ("count", "main:0:2 main:1:1 main:2:1"), ("run 2", "2"), ("count", "main:0:2 main:1:2 main:2:2"), ("back a", "ok"),
-                  ("count", "main:0:2 main:1:1 main:2:1"), ("back b", "ok"), ("count", "main:0:35 main:1:35 main:2:34"), ("begin main", "ok"), ("count", "-"),
+        desk = desk_of("part main\n00 put 3\n01 say\n02 go 0", "begin main", "run 4", "mark a", "run 100", "mark b",
+                       "back a")
+        self.says(desk, ("count", "main:0:2 main:1:1 main:2:1"), ("run 2", "2"),
+                  ("count", "main:0:2 main:1:2 main:2:2"), ("back a", "ok"),
+                  ("count", "main:0:2 main:1:1 main:2:1"), ("back b", "ok"),
+                  ("count", "main:0:35 main:1:35 main:2:34"), ("begin main", "ok"), ("count", "-"),
                   ("back a", "ok"), ("count", "main:0:2 main:1:1 main:2:1"))
 
     def test_marks_go_where_hooks_are_told_or_taken_off(self):
@@ -209,7 +246,8 @@ class DeskTest(unittest.TestCase):
         for name in "ab":
             self.refuses(desk, f"back {name}", NoMark, name=name)
         self.says(desk, ("mark a", "ok"))
-        for row, error in (("hook watch row main 5 4", NoHook), ("hook nobody row", NoPart), ("hook watch rows", NoWord), ("unhook 1", NoHook), ("unhook x", NoWord)):
+        for row, error in (("hook watch row main 5 4", NoHook), ("hook nobody row", NoPart),
+                           ("hook watch rows", NoWord), ("unhook 1", NoHook), ("unhook x", NoWord)):
             self.refuses(desk, row, error)
             self.says(desk, ("back a", "ok"))
         self.says(desk, ("unhook 0", "ok"))
@@ -229,29 +267,36 @@ class DeskTest(unittest.TestCase):
         desk = desk_of()
         for one in range(6):
             for other in range(6):
-                self.says(desk, (f"agree sub {one} {other}", "yes" if agree(read_program(TEXT), "sub", one, other) else "no"))
-        for row, wrong in (("agree sub 6 0", 6), ("agree sub 0 6", 6), ("agree sub 7 8", 7), (f"agree sub 0 {'9' * 40}", int("9" * 40))):
+                self.says(desk, (f"agree sub {one} {other}", "yes" if agree(read_program(TEXT), "sub", one,
+                                                                            other) else "no"))
+        for row, wrong in (("agree sub 6 0", 6), ("agree sub 0 6", 6), ("agree sub 7 8", 7),
+                           (f"agree sub 0 {'9' * 40}", int("9" * 40))):
             self.refuses(desk, row, NoRow, row=wrong)
-        for row, name in (("agree nobody 0 1", "nobody"), ("agree  0 1", ""), ("agree nobody 99 98", "nobody"), ("agree S! 0 0", "S!")):
+        for row, name in (("agree nobody 0 1", "nobody"), ("agree  0 1", ""), ("agree nobody 99 98", "nobody"),
+                          ("agree S! 0 0", "S!")):
             self.refuses(desk, row, NoPart, name=name)
-        for row in ("agree", "agree sub", "agree sub 0", "agree sub 0 0 0", "agree sub a 0", "agree sub 0 -1", "agree nobody 0 x", "agree sub 00 0", "agree sub 0 0 ", "agree sub  0 0",
+        for row in ("agree", "agree sub", "agree sub 0", "agree sub 0 0 0", "agree sub a 0", "agree sub 0 -1",
+                    "agree nobody 0 x", "agree sub 00 0", "agree sub 0 0 ", "agree sub  0 0",
                     "agree sub 0\n0"):
             self.refuses(desk, row, NoWord)
 
     def test_words_that_stand_alone(self):
         desk = desk_of(TEXT, "begin main 0")
         for word in ("said", "end", "at", "pile", "count", "show"):
-            for row in (f"{word} ", f" {word}", f"{word} x", f"{word}\n", word.upper(), word + "s", word[:-1], f"{word}  ", f"\n{word}"):
+            for row in (f"{word} ", f" {word}", f"{word} x", f"{word}\n", word.upper(), word + "s", word[:-1],
+                        f"{word}  ", f"\n{word}"):
                 self.refuses(desk, row, NoWord)
 
     def test_things_that_are_no_texts_and_other_words(self):
         for desk in (Desk(), desk_of(TEXT, "begin main 0", "run 2")):
-            for thing in any_things() + [very_deep(), None, b"said", ["said"], ("said",), "", " ", "\n", "state", "hooks", "put", "main", "ok", "-", "part main", FIRST, "a" * 6000]:
+            for thing in any_things() + [very_deep(), None, b"said", ["said"], ("said",), "", " ", "\n", "state",
+                                         "hooks", "put", "main", "ok", "-", "part main", FIRST, "a" * 6000]:
                 self.refuses(desk, thing, NoWord)
 
     def test_a_line_end_where_none_is_due(self):
         desk = desk_of(TEXT, "begin main 0")
-        for row in ("begin ma\nin 1", "begin main\n", "begin \n", "begin \n 1", "agree su\nb 0 1", "agree \n 0 1", "hook wat\nch row", "hook \n row",
+        for row in ("begin ma\nin 1", "begin main\n", "begin \n", "begin \n 1", "agree su\nb 0 1", "agree \n 0 1",
+                    "hook wat\nch row", "hook \n row",
                     "hook watch row \n 0 1", "begin nobody\n", "run 1\n", "mark a\n", "back a\nb"):
             self.refuses(desk, row, NoWord)
 
@@ -281,7 +326,8 @@ class DeskTest(unittest.TestCase):
                 self.assertEqual(desk.say("end"), "going" if end is None else f"{end[0]} {end[1]}")
                 self.assertEqual(desk.say("at"), " ".join(f"{program[frame[0]][0]}:{frame[1]}" for frame in frames) or "-")
                 self.assertEqual(desk.say("pile"), (" ".join(map(str, frames[-1][2])) if frames else "") or "-")
-                self.assertEqual(desk.say("count"), " ".join(f"{part}:{row}:{many}" for part, row, many in tally.rows()) or "-")
+                self.assertEqual(desk.say("count"), " ".join(f"{part}:{row}:{many}" for part, row,
+                                                             many in tally.rows()) or "-")
 
     def test_a_tree_made_written_told_to_a_desk_and_run_there(self):
         source = random.Random(91)
@@ -295,7 +341,8 @@ class DeskTest(unittest.TestCase):
             while desk.say("end") == "going":
                 desk.say("run 500")
             ends.add(end[0])
-            self.assertEqual((desk.say("said"), desk.say("end")), (" ".join(map(str, said)) or "-", f"{end[0]} {end[1]}"))
+            self.assertEqual((desk.say("said"), desk.say("end")), (" ".join(map(str, said)) or "-",
+                                                                   f"{end[0]} {end[1]}"))
         self.assertEqual(ends, {"back", "fault"})
 
 

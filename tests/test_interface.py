@@ -38,11 +38,14 @@ CLASSES = {
 METHODS = {
     "watchedrun.plain": {"Trace": {"moments": "(self)", "said": "(self)", "end": "(self)"}},
     "watchedrun.watch": {"Watch": {
-        "begin": "(self, part, numbers=())", "run": "(self, *, most=200)", "put": "(self, state)", "state": "(self)", "hooks": "(self)",
+        "begin": "(self, part, numbers=())", "run": "(self, *, most=200)", "put": "(self, state)", "state": "(self)",
+        "hooks": "(self)",
         "said": "(self)", "end": "(self)", "hook": "(self, hook)", "unhook": "(self, number)",
-        "listen": "(self, ear, *, kinds=('call', 'row', 'back', 'fault', 'caught'), inner=False)", "deafen": "(self, number)",
+        "listen": "(self, ear, *, kinds=('call', 'row', 'back', 'fault', 'caught'), inner=False)",
+        "deafen": "(self, number)",
     }},
-    "watchedrun.tally": {"Tally": {"ear": "(self)", "rows": "(self)", "calls": "(self)", "faults": "(self)", "deepest": "(self)"}},
+    "watchedrun.tally": {"Tally": {"ear": "(self)", "rows": "(self)", "calls": "(self)", "faults": "(self)",
+                                   "deepest": "(self)"}},
     "watchedrun.desk": {"Desk": {"say": "(self, text)"}},
 }
 

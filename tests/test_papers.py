@@ -15,7 +15,8 @@ from watchedrun.states import begun
 
 END = (("put", 0), ("back",))
 PROGRAM = (
-    ("main", ("n",), (("get", "n"), ("if", 5), ("put", 1), ("back",), ("away",), ("put", 7), ("try", 10), ("put", 2), ("done",), ("back",),
+    ("main", ("n",), (("get", "n"), ("if", 5), ("put", 1), ("back",), ("away",), ("put", 7), ("try", 10), ("put", 2),
+                      ("done",), ("back",),
                       ("add",), ("throw",), ("go", 13), ("go", 12))),
     ("lacking", (), (("put", 1), ("if", 0), ("add",))),
     ("falling", (), (("put", 1), ("if", 3), ("go", 0), ("put", 2))),
@@ -25,7 +26,8 @@ PROGRAM = (
 )
 SOUND = (PROGRAM[0], ("ring", (), (("put", 1), ("put", 2), ("away",), ("go", 1))), PROGRAM[5])
 RING = (("main", (), (("put", 3), ("say",), ("go", 0))), ("watch", ("k", "r", "w"), END))
-UNSOUND = (("main", (), END), ("wrong", ("a",), (("add",),)), ("worse", (), (("away",),)), ("watch", ("k", "r", "w"), END))
+UNSOUND = (("main", (), END), ("wrong", ("a",), (("add",),)), ("worse", (), (("away",),)),
+           ("watch", ("k", "r", "w"), END))
 HOOK = ("watch", ("row",), None)
 
 
@@ -35,10 +37,12 @@ def otherwise(thing, program):
     if isinstance(thing, int):
         told += [thing + 1, thing - 1, bool(thing), str(thing), (thing,), [thing], 10 ** 39]
     if isinstance(thing, str):
-        told += [part[0] for part in program] + ["lacks", "falls", "two", "sound", "agree", "apart", "unmet", "run", "call", "row", "back", thing + "x", thing[:-1]]
+        told += [part[0] for part in program] + ["lacks", "falls", "two", "sound", "agree", "apart", "unmet", "run",
+                                                 "call", "row", "back", thing + "x", thing[:-1]]
     if isinstance(thing, (tuple, list)):
         kind = type(thing)
-        told += [list(thing), tuple(thing), thing[:-1], thing[1:], thing + thing[-1:], thing + kind([None]), thing + kind([0]), thing[::-1], kind(), [thing]]
+        told += [list(thing), tuple(thing), thing[:-1], thing[1:], thing + thing[-1:], thing + kind([None]),
+                 thing + kind([0]), thing[::-1], kind(), [thing]]
     return told
 
 
@@ -97,7 +101,10 @@ class PartPaperTest(PaperTest):
             if source.randrange(2):
                 rows = [list(part[2]) for part in program]
                 chosen = source.choice(rows)
-                chosen[source.choice((source.randrange(len(chosen)), -1))] = source.choice((("add",), ("done",), ("away",), ("put", 1), ("go", 0), ("twin",), ("back",)))
+                chosen[source.choice((source.randrange(len(chosen)), -1))] = source.choice((("add",), ("done",),
+                                                                                            ("away",), ("put", 1),
+                                                                                            ("go", 0), ("twin",),
+                                                                                            ("back",)))
                 program = tuple((name, names, tuple(new)) for (name, names, _), new in zip(program, rows))
             for name, _, _ in program:
                 paper = part_paper(program, name)
@@ -119,7 +126,8 @@ class PartPaperTest(PaperTest):
             for _ in range(30):
                 walk = self.random_walk(source, program, source.randrange(1, 12))
                 other = self.random_walk(source, program, source.randrange(1, 12))
-                for paper in (("lacks", "main", walk), ("falls", "main", walk), ("two", "main", walk, other), ("agree", "main", walk, other),
+                for paper in (("lacks", "main", walk), ("falls", "main", walk), ("two", "main", walk, other),
+                              ("agree", "main", walk, other),
                               ("apart", "main", walk, other)):
                     self.holds(program, paper, paper_holds(program, paper))
                     if paper[0] in ("lacks", "falls", "two") and known is not None:
@@ -157,7 +165,8 @@ class PartPaperTest(PaperTest):
     def test_sound_told_as_not_sound_and_the_contrary(self):
         for name in ("lacking", "falling", "twofold", "guarded"):
             paper = part_paper(PROGRAM, name)
-            for known, walks in (([(0, ())], [[0]]), ([(0, ()), (1, ())], [[0], [0, 1]]), ([(0, ()), (1, ()), (0, ())], [[0], [0, 1], [0, 1, 2]])):
+            for known, walks in (([(0, ())], [[0]]), ([(0, ()), (1, ())], [[0], [0, 1]]),
+                                 ([(0, ()), (1, ()), (0, ())], [[0], [0, 1], [0, 1, 2]])):
                 self.holds(PROGRAM, ("sound", name, known, walks), False)
             for other in ("main", "watch"):
                 self.holds(PROGRAM, (paper[0], other, *paper[2:]), False)
@@ -166,7 +175,8 @@ class PartPaperTest(PaperTest):
         self.holds(PROGRAM, ("two", "main", [0], [0]), False)
 
     def test_a_row_that_lacks_leads_nowhere(self):
-        for rows in ((("add",), ("back",)), (("add",), ("put", 0)), (("done",), ("add",)), (("away",), ("away",)), (("if", 1), ("add",))):
+        for rows in ((("add",), ("back",)), (("add",), ("put", 0)), (("done",), ("add",)), (("away",), ("away",)),
+                     (("if", 1), ("add",))):
             program = (("main", (), rows),)
             self.holds(program, ("lacks", "main", [0]))
             for word in ("lacks", "falls"):
@@ -175,19 +185,22 @@ class PartPaperTest(PaperTest):
             self.holds(program, ("two", "main", [0, 1], [0]), False)
         program = (("main", (), (("if", 2), ("put", 0), ("back",))),)
         self.holds(program, ("two", "main", [0, 2], [0, 1, 2]), False)
-        self.holds((("main", (), (("put", 1), *program[0][2][:1], *program[0][2][1:])),), ("two", "main", [0, 1, 2], [0, 1, 2, 3]), False)
+        self.holds((("main", (), (("put", 1), *program[0][2][:1], *program[0][2][1:])),),
+                   ("two", "main", [0, 1, 2], [0, 1, 2, 3]), False)
 
     def test_sound_papers_of_parts_that_lack_or_fall(self):
         for rows, known, walks in (
             ((("throw",),), [(0, ())], [[0]]), ((("back",),), [(0, ())], [[0]]), ((("put", 0),), [(0, ())], [[0]]),
-            ((("put", 0), ("if", 0)), [(0, ()), (1, ())], [[0], [0, 1]]), ((("put", 0), ("say",)), [(0, ()), (1, ())], [[0], [0, 1]]),
+            ((("put", 0), ("if", 0)), [(0, ()), (1, ())], [[0], [0, 1]]), ((("put", 0), ("say",)), [(0, ()), (1, ())],
+                                                                           [[0], [0, 1]]),
             ((("done",), *END), [(0, ()), (0, ()), (1, ())], [[0], [0, 1], [0, 1, 2]]),
             ((("try", 0),), [(0, ())], [[0]]), ((("go", 0), ("away",)), [(0, ()), (0, ())], [[0], [0]]),
         ):
             self.holds((("main", (), rows),), ("sound", "main", known, walks), False)
 
     def test_the_row_behind_the_last_one(self):
-        for last, due in (((("if", 0),), True), ((("try", 0),), True), ((("go", 0),), False), ((("back",),), False), ((("throw",),), False),
+        for last, due in (((("if", 0),), True), ((("try", 0),), True), ((("go", 0),), False), ((("back",),), False),
+                          ((("throw",),), False),
                           ((("add",),), False), ((("away",),), True)):
             program = (("main", (), (("put", 0), *last)),)
             self.holds(program, ("falls", "main", [0, 1]), due)
@@ -199,7 +212,8 @@ class PartPaperTest(PaperTest):
         paper = part_paper(program, "main")
         self.assertEqual(paper, ("sound", "main", [(0, ()), (1, ()), None, None], [[0], [0, 1], None, None]))
         self.holds(program, ("sound", "main", [(0, ()), (1, ()), (0, ()), None], [[0], [0, 1], None, None]), False)
-        self.holds(program, ("sound", "main", [(0, ()), (1, ()), (0, ()), (1, ())], [[0], [0, 1], [0, 1, 2], [0, 1, 2, 3]]), False)
+        self.holds(program, ("sound", "main", [(0, ()), (1, ()), (0, ()), (1, ())],
+                             [[0], [0, 1], [0, 1, 2], [0, 1, 2, 3]]), False)
         self.holds(program, ("sound", "main", [(0, ()), None, None, None], [[0], None, None, None]), False)
         self.holds(program, ("sound", "main", [None, None, None, None], [None, None, None, None]), False)
 
@@ -260,11 +274,16 @@ class RowsPaperTest(PaperTest):
     def test_closed_sets(self):
         met = [0, 1, 2, 3, 5, 6, 7, 8, 9, 10, 11]
         for row, rows, due in (
-            (4, met, True), (12, met, True), (13, met, True), (4, met + [12, 13], True), (4, met + [12], False), (4, met + [13], False),
-            (12, sorted(met + [4]), True), (4, sorted(met + [4]), False), (4, met[1:], False), (4, met[:-1], False), (4, met[::-1], False),
-            (4, met + [11], False), (4, [0, 0] + met[1:], False), (0, met, False), (4, [], False), (14, met, False), (-1, met, False),
-            (4, [False] + met[1:], False), (4, [0, True] + met[2:], False), (True, met, False), (4, tuple(met), False), (4, met + [14], False),
-            (4, [-1] + met, False), ("4", met, False), (None, met, False), (4, None, False), (4, [[0]] + met, False), (4, met + [None], False),
+            (4, met, True), (12, met, True), (13, met, True), (4, met + [12, 13], True), (4, met + [12], False),
+            (4, met + [13], False),
+            (12, sorted(met + [4]), True), (4, sorted(met + [4]), False), (4, met[1:], False), (4, met[:-1], False),
+            (4, met[::-1], False),
+            (4, met + [11], False), (4, [0, 0] + met[1:], False), (0, met, False), (4, [], False), (14, met, False),
+            (-1, met, False),
+            (4, [False] + met[1:], False), (4, [0, True] + met[2:], False), (True, met, False), (4, tuple(met), False),
+            (4, met + [14], False),
+            (4, [-1] + met, False), ("4", met, False), (None, met, False), (4, None, False), (4, [[0]] + met, False),
+            (4, met + [None], False),
         ):
             self.holds(PROGRAM, ("unmet", "main", row, rows), due)
         for at in range(len(met)):
@@ -282,7 +301,8 @@ class RowsPaperTest(PaperTest):
     def test_of_a_part_that_is_not_sound_none_holds(self):
         program = (("main", (), (("put", 1), ("if", 3), ("add",), *END, ("back",))),)
         self.assertFalse(is_sound(program))
-        for paper in (("agree", "main", [0], [0]), ("apart", "main", [0], [0, 1]), ("unmet", "main", 5, [0, 1, 2, 3, 4])):
+        for paper in (("agree", "main", [0], [0]), ("apart", "main", [0], [0, 1]),
+                      ("unmet", "main", 5, [0, 1, 2, 3, 4])):
             self.holds(program, paper, False)
         # Another part that isn't sound is nothing to a part that is.
         self.holds(PROGRAM, ("agree", "watch", [0], [0]))
@@ -297,13 +317,15 @@ class RowsPaperTest(PaperTest):
                     rows_paper(PROGRAM, thing, one, other)
         for thing in [one for one in any_things() if not (type(one) is int and 0 <= one < 2)]:
             for part in ("lacking", "watch", "twofold"):
-                for one, other, wrong in ((thing, 0, thing), (0, thing, thing), (thing, thing, thing), (thing, -5, thing), (-5, thing, -5)):
+                for one, other, wrong in ((thing, 0, thing), (0, thing, thing), (thing, thing, thing),
+                                          (thing, -5, thing), (-5, thing, -5)):
                     if thing == 2 and part == "lacking":
                         continue
                     with self.assertRaises(NoRow) as caught:
                         rows_paper(PROGRAM, part, one, other)
                     self.assertEqual(repr(caught.exception.row), repr(wrong))
-        for part, paper in (("lacking", ("lacks", "lacking", [0, 1, 2])), ("twofold", ("two", "twofold", [0], [0, 1, 0]))):
+        for part, paper in (("lacking", ("lacks", "lacking", [0, 1, 2])), ("twofold", ("two", "twofold", [0],
+                                                                                       [0, 1, 0]))):
             with self.assertRaises(Unsound) as caught:
                 rows_paper(PROGRAM, part, 0, 1)
             self.assertEqual((caught.exception.part, caught.exception.paper), (part, paper))
@@ -389,7 +411,8 @@ class RunPaperTest(PaperTest):
         with self.assertRaises(NoNumbers) as caught:
             run_paper(RING, "watch", (1, 2, True), hooks=None)
         self.assertEqual(caught.exception.many, 3)
-        for hooks in ([HOOK], (HOOK,) * 5, (HOOK, None), HOOK, (("main", ("row",), None),), (("watch", ("row",), ("main", 0, True)),)):
+        for hooks in ([HOOK], (HOOK,) * 5, (HOOK, None), HOOK, (("main", ("row",), None),),
+                      (("watch", ("row",), ("main", 0, True)),)):
             with self.assertRaises(NoHook):
                 run_paper(RING, "main", hooks=hooks)
         for thing in ([1, 2, 3], [4, 5]):
@@ -413,8 +436,10 @@ class LookerTest(PaperTest):
         for thing in any_things() + [very_deep(), very_deep("run"), PROGRAM, (PROGRAM,)]:
             self.assertIs(holds(PROGRAM, thing), False)
             for word in ("lacks", "falls", "two", "sound", "agree", "apart", "unmet", "run"):
-                for paper in ((word, thing), (word, "main", thing), (word, "main", thing, thing), (word, "main", thing, thing, thing),
-                              (word, thing, thing), (thing, "main", [0]), (word, "main", thing, thing, thing, thing), (word, "main"), (word,),
+                for paper in ((word, thing), (word, "main", thing), (word, "main", thing, thing),
+                              (word, "main", thing, thing, thing),
+                              (word, thing, thing), (thing, "main", [0]), (word, "main", thing, thing, thing, thing),
+                              (word, "main"), (word,),
                               (thing, "main", [0], [0])):
                     if holds(PROGRAM, paper) is not False and not paper_holds(PROGRAM, paper):
                         self.fail(shown(paper))
@@ -422,7 +447,8 @@ class LookerTest(PaperTest):
 
     def test_deep_things_within(self):
         deep = very_deep()
-        for paper in (part_paper(PROGRAM, "lacking"), part_paper(PROGRAM, "main"), rows_paper(PROGRAM, "main", 0, 3), rows_paper(PROGRAM, "main", 0, 4),
+        for paper in (part_paper(PROGRAM, "lacking"), part_paper(PROGRAM, "main"), rows_paper(PROGRAM, "main", 0, 3),
+                      rows_paper(PROGRAM, "main", 0, 4),
                       run_paper(SOUND, "main", (3,), hooks=(HOOK,))):
             program = SOUND if paper[0] == "run" else PROGRAM
             for path, _ in list(places(paper))[:400]:
@@ -436,7 +462,8 @@ class LookerTest(PaperTest):
                     holds(thing, paper)
 
     def test_nothing_is_changed(self):
-        for paper in (part_paper(PROGRAM, "main"), part_paper(PROGRAM, "twofold"), rows_paper(PROGRAM, "main", 0, 4), run_paper(RING, "main")):
+        for paper in (part_paper(PROGRAM, "main"), part_paper(PROGRAM, "twofold"), rows_paper(PROGRAM, "main", 0, 4),
+                      run_paper(RING, "main")):
             program = RING if paper[0] == "run" else PROGRAM
             kept = copy.deepcopy((program, paper))
             self.assertEqual([holds(program, paper) for _ in range(2)], [True, True])

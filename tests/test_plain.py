@@ -38,19 +38,22 @@ class WalkTest(unittest.TestCase):
     def test_with_each_kind_but_faults(self):
         self.walks(PLAIN, "main", (5,), (
             ("call", 1, "main", 0), ("row", 1, "main", 0), ("row", 1, "main", 1), ("row", 1, "main", 2),
-            ("call", 2, "sub", 0), ("row", 2, "sub", 0), ("row", 2, "sub", 1), ("row", 2, "sub", 4), ("row", 2, "sub", 5),
+            ("call", 2, "sub", 0), ("row", 2, "sub", 0), ("row", 2, "sub", 1), ("row", 2, "sub", 4),
+            ("row", 2, "sub", 5),
             ("back", 2, "sub", 5, 5), ("row", 1, "main", 3), ("row", 1, "main", 4), ("back", 1, "main", 4, 5),
         ), (), ("back", 5))
 
     def test_with_faults_and_caught(self):
         self.walks(PLAIN, "main", (0,), (
             ("call", 1, "main", 0), ("row", 1, "main", 0), ("row", 1, "main", 1), ("row", 1, "main", 2),
-            ("call", 2, "sub", 0), ("row", 2, "sub", 0), ("row", 2, "sub", 1), ("row", 2, "sub", 2), ("row", 2, "sub", 3),
+            ("call", 2, "sub", 0), ("row", 2, "sub", 0), ("row", 2, "sub", 1), ("row", 2, "sub", 2),
+            ("row", 2, "sub", 3),
             ("fault", 2, "sub", 3, 7), ("fault", 1, "main", 2, 7), ("caught", 1, "main", 2, 7),
             ("row", 1, "main", 5), ("row", 1, "main", 6), ("row", 1, "main", 7), ("back", 1, "main", 7, 0),
         ), (7,), ("back", 0))
         self.walks(PLAIN, "sub", [0], (
-            ("call", 1, "sub", 0), ("row", 1, "sub", 0), ("row", 1, "sub", 1), ("row", 1, "sub", 2), ("row", 1, "sub", 3),
+            ("call", 1, "sub", 0), ("row", 1, "sub", 0), ("row", 1, "sub", 1), ("row", 1, "sub", 2),
+            ("row", 1, "sub", 3),
             ("fault", 1, "sub", 3, 7),
         ), (), ("fault", 7))
 
@@ -74,7 +77,8 @@ class WalkTest(unittest.TestCase):
 
     def test_what_comes_of_the_last_row(self):
         self.walks(PLAIN, "main", (0,), (
-            ("call", 1, "main", 0), ("row", 1, "main", 0), ("row", 1, "main", 1), ("row", 1, "main", 2), ("call", 2, "sub", 0),
+            ("call", 1, "main", 0), ("row", 1, "main", 0), ("row", 1, "main", 1), ("row", 1, "main", 2),
+            ("call", 2, "sub", 0),
         ), (), None, most=3)
         told = walked(PLAIN, "main", (0,), most=7).moments()[-4:]
         self.assertEqual([str(one) for one in told], [
@@ -103,11 +107,13 @@ class WalkTest(unittest.TestCase):
         trace = walked(DEEP, "main", (4,))
         told = trace.moments()
         self.assertEqual([one.depth for one in told if one.kind == "call"], list(range(1, 13)))
-        self.assertEqual([str(one) for one in told if one.kind == "fault"], [f"{depth} fault main:1 = -4" for depth in range(12, 0, -1)])
+        self.assertEqual([str(one) for one in told if one.kind == "fault"],
+                         [f"{depth} fault main:1 = -4" for depth in range(12, 0, -1)])
         self.assertEqual((trace.end(), len(trace)), (("fault", -4), 24))
 
     def test_numbers_in_a_tuple_and_in_a_list(self):
-        program = (("main", ("z", "m", "a"), (("get", "z"), ("say",), ("get", "m"), ("say",), ("get", "a"), ("say",), *END)),)
+        program = (("main", ("z", "m", "a"), (("get", "z"), ("say",), ("get", "m"), ("say",), ("get", "a"), ("say",),
+                                              *END)),)
         numbers = [1, -2, 10 ** 12]
         self.assertEqual(walked(program, "main", numbers).said(), [1, -2, 10 ** 12])
         self.assertEqual(walked(program, "main", tuple(numbers)), walked(program, "main", numbers))
@@ -128,7 +134,8 @@ class WalkTest(unittest.TestCase):
 
     def test_by_rows_alone(self):
         source = random.Random(31)
-        plain = {"add", "less", "times", "over", "same", "below", "throw", "get", "put", "set", "say", "try", "done", "go", "if", "call", "back"}
+        plain = {"add", "less", "times", "over", "same", "below", "throw", "get", "put", "set", "say", "try", "done",
+                 "go", "if", "call", "back"}
         for _ in range(300):
             program = random_program(source)
             if all(row[0] in plain for part in program[:3] for row in part[2]):
@@ -187,7 +194,8 @@ class TraceTest(unittest.TestCase):
 
     def test_against_other_things(self):
         trace = walked(PLAIN, "main", (0,))
-        for thing in any_things() + [str(trace), trace.moments(), trace.said(), trace.end(), 11, Moment("row", 1, "main", 0)]:
+        for thing in any_things() + [str(trace), trace.moments(), trace.said(), trace.end(), 11,
+                                     Moment("row", 1, "main", 0)]:
             self.assertIs(trace == thing, False)
             self.assertIs(thing == trace, False)
             self.assertIs(trace != thing, True)
@@ -220,7 +228,8 @@ class RefusalTest(unittest.TestCase):
             self.assertEqual(caught.exception.many, 1)
 
     def test_numbers_that_are_no_worths(self):
-        for numbers in ((True,), [False], (10 ** 12 + 1,), [-10 ** 12 - 1], ("1",), (None,), ((1,),), ([1],), (1, 2), [], (), {1: 2}, "a", b"a"):
+        for numbers in ((True,), [False], (10 ** 12 + 1,), [-10 ** 12 - 1], ("1",), (None,), ((1,),), ([1],), (1, 2),
+                        [], (), {1: 2}, "a", b"a"):
             with self.assertRaises(NoNumbers) as caught:
                 walked(DEEP, "main", numbers)
             self.assertEqual(caught.exception.many, 1)

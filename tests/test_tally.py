@@ -10,7 +10,8 @@ from watchedrun.tally import Tally, tallied
 from watchedrun.watch import Watch
 
 PROGRAM = (
-    ("main", ("n",), (("get", "n"), ("if", 4), ("put", 0), ("back",), ("get", "n"), ("put", 1), ("less",), ("call", "main"), ("say",),
+    ("main", ("n",), (("get", "n"), ("if", 4), ("put", 0), ("back",), ("get", "n"), ("put", 1), ("less",),
+                      ("call", "main"), ("say",),
                       ("try", 12), ("call", "sub"), ("back",), ("back",))),
     ("sub", (), (("put", 7), ("throw",))),
 )
@@ -41,13 +42,16 @@ class TallyTest(unittest.TestCase):
             self.assertEqual(tallied([Moment(kind, 1, "a", 0, 5)]).rows(), [])
 
     def test_faults(self):
-        told = [Moment("fault", 2, "a", 0, -3), Moment("fault", 1, "b", 7, -3), Moment("fault", 1, "a", 0, 5), Moment("fault", 1, "a", 0, 0),
+        told = [Moment("fault", 2, "a", 0, -3), Moment("fault", 1, "b", 7, -3), Moment("fault", 1, "a", 0, 5),
+                Moment("fault", 1, "a", 0, 0),
                 Moment("caught", 1, "a", 0, 5), Moment("back", 1, "a", 0, 5), Moment("fault", 4, "a", 0, -10)]
         self.check(tallied(told), faults=((-10, 1), (-3, 2), (0, 1), (5, 1)), deepest=4, many=7)
 
     def test_calls(self):
-        told = [call(1, "main"), call(2, "b"), call(2, "a"), call(3, "a"), call(2, "b"), call(3, "b"), call(4, "b"), call(2, "b")]
-        self.check(tallied(told), calls=(("", "main", 1), ("a", "a", 1), ("b", "b", 2), ("main", "a", 1), ("main", "b", 3)),
+        told = [call(1, "main"), call(2, "b"), call(2, "a"), call(3, "a"), call(2, "b"), call(3, "b"), call(4, "b"),
+                call(2, "b")]
+        self.check(tallied(told), calls=(("", "main", 1), ("a", "a", 1), ("b", "b", 2), ("main", "a", 1),
+                                         ("main", "b", 3)),
                    deepest=4, many=8)
 
     def test_calls_without_a_caller(self):
@@ -57,20 +61,26 @@ class TallyTest(unittest.TestCase):
 
     def test_the_caller_is_the_last_one_of_one_depth_less(self):
         """Also where it has given back since, or where calls of other depths were told between."""
-        told = [call(1, "a"), call(1, "b"), call(2, "x"), Moment("back", 1, "b", 3, 0), call(2, "y"), call(1, "c"), call(3, "z"), call(2, "w")]
-        self.assertEqual(tallied(told).calls(), [("", "a", 1), ("", "b", 1), ("", "c", 1), ("b", "x", 1), ("b", "y", 1), ("c", "w", 1), ("y", "z", 1)])
-        told = [Moment("row", 1, "a", 0), Moment("back", 1, "a", 0, 1), Moment("fault", 1, "a", 0, 1), Moment("caught", 1, "a", 0, 1), call(2, "b")]
+        told = [call(1, "a"), call(1, "b"), call(2, "x"), Moment("back", 1, "b", 3, 0), call(2, "y"), call(1, "c"),
+                call(3, "z"), call(2, "w")]
+        self.assertEqual(tallied(told).calls(), [("", "a", 1), ("", "b", 1), ("", "c", 1), ("b", "x", 1),
+                                                 ("b", "y", 1), ("c", "w", 1), ("y", "z", 1)])
+        told = [Moment("row", 1, "a", 0), Moment("back", 1, "a", 0, 1), Moment("fault", 1, "a", 0, 1),
+                Moment("caught", 1, "a", 0, 1), call(2, "b")]
         self.assertEqual(tallied(told).calls(), [("", "b", 1)])
 
     def test_moments_of_any_texts_and_numbers(self):
-        told = [Moment("other", 9, "", -5, 3), Moment("row", 0, "Any Text", -7), Moment("call", 0, "x y", 3, 4), Moment("call", 1, "", 0),
+        told = [Moment("other", 9, "", -5, 3), Moment("row", 0, "Any Text", -7), Moment("call", 0, "x y", 3, 4),
+                Moment("call", 1, "", 0),
                 Moment("fault", 2, "", 0, 10 ** 30), Moment("", -4, "row", 10 ** 20)]
-        self.check(tallied(told), rows=(("Any Text", -7, 1),), calls=(("", "x y", 1), ("x y", "", 1)), faults=((10 ** 30, 1),),
+        self.check(tallied(told), rows=(("Any Text", -7, 1),), calls=(("", "x y", 1), ("x y", "", 1)),
+                   faults=((10 ** 30, 1),),
                    deepest=9, many=6)
 
     def test_deepest(self):
         for kind in KINDS + ("other",):
-            self.assertEqual(tallied([Moment(kind, 2, "a", 0, 1), Moment(kind, 5, "a", 0, 1), Moment(kind, 3, "a", 0, 1)]).deepest(), 5)
+            self.assertEqual(tallied([Moment(kind, 2, "a", 0, 1), Moment(kind, 5, "a", 0, 1),
+                                      Moment(kind, 3, "a", 0, 1)]).deepest(), 5)
         self.assertEqual(tallied([Moment("row", -3, "a", 0)]).deepest(), -3)
 
     def test_an_ear_of_its_own(self):
@@ -105,17 +115,22 @@ class TallyTest(unittest.TestCase):
         told = [call(1, "a"), Moment("row", 1, "a", 0), Moment("fault", 1, "a", 0, 4), Moment("back", 2, "a", 0, 1)]
         self.assertIs(tallied(told) == tallied(told[::-1]), True)
         self.assertIs(tallied(told) != tallied(told[::-1]), False)
-        for more in (Moment("row", 1, "a", 0), Moment("row", 1, "a", 1), call(1, "a"), call(2, "a"), Moment("fault", 1, "a", 0, 4),
-                     Moment("fault", 1, "a", 0, 5), Moment("back", 1, "a", 0, 5), Moment("back", 3, "a", 0, 5), Moment("row", 1, "b", 0)):
+        for more in (Moment("row", 1, "a", 0), Moment("row", 1, "a", 1), call(1, "a"), call(2, "a"),
+                     Moment("fault", 1, "a", 0, 4),
+                     Moment("fault", 1, "a", 0, 5), Moment("back", 1, "a", 0, 5), Moment("back", 3, "a", 0, 5),
+                     Moment("row", 1, "b", 0)):
             self.assertIs(tallied(told + [more]) == tallied(told), False)
             self.assertIs(tallied(told) != tallied(told + [more]), True)
         for one, other in (
             (Moment("row", 1, "a", 0), Moment("row", 1, "a", 1)), (Moment("row", 1, "a", 0), Moment("row", 1, "b", 0)),
-            (Moment("row", 1, "a", 0), Moment("row", 2, "a", 0)), (call(1, "a"), call(1, "b")), (Moment("row", 1, "a", 0), call(1, "a")),
-            (Moment("fault", 1, "a", 0, 4), Moment("fault", 1, "a", 0, 5)), (Moment("back", 1, "a", 0), Moment("fault", 1, "a", 0, 5)),
+            (Moment("row", 1, "a", 0), Moment("row", 2, "a", 0)), (call(1, "a"), call(1, "b")),
+            (Moment("row", 1, "a", 0), call(1, "a")),
+            (Moment("fault", 1, "a", 0, 4), Moment("fault", 1, "a", 0, 5)), (Moment("back", 1, "a", 0),
+                                                                             Moment("fault", 1, "a", 0, 5)),
         ):
             self.assertNotEqual(tallied([one]), tallied([other]))
-        for one, other in ((Moment("back", 1, "a", 0, 4), Moment("caught", 1, "b", 9, 5)), (Moment("row", 1, "a", 0), Moment("row", 1, "a", 0, 9))):
+        for one, other in ((Moment("back", 1, "a", 0, 4), Moment("caught", 1, "b", 9, 5)),
+                           (Moment("row", 1, "a", 0), Moment("row", 1, "a", 0, 9))):
             self.assertEqual(tallied([one]), tallied([other]))
 
     def test_against_other_things(self):

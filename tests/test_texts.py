@@ -12,7 +12,8 @@ from watchedrun.texts import read_program, show_program
 MOST = 10 ** 12
 END = (("put", 0), ("back",))
 PROGRAM = (
-    ("main", ("n", "abcdefgh"), (("put", -5), ("get", "n"), ("set", "m"), ("look", "zz"), ("change", "z"), ("call", "part"), ("go", 0), ("if", 10),
+    ("main", ("n", "abcdefgh"), (("put", -5), ("get", "n"), ("set", "m"), ("look", "zz"), ("change", "z"),
+                                 ("call", "part"), ("go", 0), ("if", 10),
                                  ("try", 3), *[(word,) for word in LONE_WORDS])),
     ("part", (), END),
 )
@@ -97,7 +98,8 @@ class TextTest(unittest.TestCase):
     def test_programs_of_every_size(self):
         for parts in range(1, 9):
             for rows in (1, 2, 9, 10, 11, 59, 60):
-                program = tuple((chr(97 + at) * 8, ("x", "y", "z")[:at % 4], (("put", at - 3),) * rows) for at in range(parts))
+                program = tuple((chr(97 + at) * 8, ("x", "y", "z")[:at % 4],
+                                 (("put", at - 3),) * rows) for at in range(parts))
                 self.same(program)
         self.same((("a", (), (("go", 0),)),))
         self.assertEqual(show_program((("a", (), (("go", 0),)),)), "part a\n00 go 0")
@@ -109,19 +111,22 @@ class TextTest(unittest.TestCase):
             self.assertEqual(show_program(program), f"part a\n00 put {worth}")
 
     def test_worths_by_sixteens(self):
-        for text, worth in (("x0", 0), ("x1", 1), ("-x1", -1), ("xa", 10), ("xf", 15), ("-xff", -255), ("x10", 16), ("xe8d4a51000", MOST),
+        for text, worth in (("x0", 0), ("x1", 1), ("-x1", -1), ("xa", 10), ("xf", 15), ("-xff", -255), ("x10", 16),
+                            ("xe8d4a51000", MOST),
                             ("-xe8d4a51000", -MOST), ("xabcdef", 0xabcdef), ("x123456789", 0x123456789)):
             told = read_program(f"part a\n00 put {text}")
             self.assertEqual(repr(told), repr((("a", (), (("put", worth),)),)))
             self.assertEqual(show_program(told), f"part a\n00 put {worth}")
         for text in ("xe8d4a51001", "-xe8d4a51001", "x" + "f" * 40, "-x1" + "0" * 39):
             self.no_program(f"part a\n00 put {text}")
-        for text in ("-x0", "x00", "x01", "-x01", "x", "-x", "xg", "xA", "xF", "X1", "0x1", "x-1", "--x1", "xx1", "x 1", "1x", "x1x", "x" + "f" * 41,
+        for text in ("-x0", "x00", "x01", "-x01", "x", "-x", "xg", "xA", "xF", "X1", "0x1", "x-1", "--x1", "xx1",
+                     "x 1", "1x", "x1x", "x" + "f" * 41,
                      "-x" + "1" * 41, "x1-", "x+1", "f", "a", "-f"):
             self.no_text(f"part a\n00 put {text}", 1)
 
     def test_numbers_in_figures(self):
-        for text in ("00", "01", "-0", "-01", "+1", "--1", "1-", "-", "", "1 ", " 1", "1.0", "1e3", "1_0", "1,0", "one", "9" * 41, "-" + "9" * 41, "0" * 40, "\u0661", "\u00b2"):
+        for text in ("00", "01", "-0", "-01", "+1", "--1", "1-", "-", "", "1 ", " 1", "1.0", "1e3", "1_0", "1,0",
+                     "one", "9" * 41, "-" + "9" * 41, "0" * 40, "\u0661", "\u00b2"):
             self.no_text(f"part a\n00 put {text}", 1)
         for text in ("9" * 40, "-" + "9" * 40, str(MOST + 1), str(-MOST - 1), "1" + "0" * 39):
             self.no_program(f"part a\n00 put {text}")
@@ -149,7 +154,8 @@ class TextTest(unittest.TestCase):
 
     def test_so_written_but_no_program(self):
         for text in (
-            "part a b c d e\n00 back", "part a b b\n00 back", "part a b c d e f g h i j\n00 back", "part a\n00 back\npart a\n00 back",
+            "part a b c d e\n00 back", "part a b b\n00 back", "part a b c d e f g h i j\n00 back",
+            "part a\n00 back\npart a\n00 back",
             "\n".join(f"part {name}\n00 back" for name in "abcdefghi"),
         ):
             self.no_program(text)
@@ -167,9 +173,12 @@ class TextTest(unittest.TestCase):
     def test_rows_out_twice_and_exchanged(self):
         lines = TEXT.split("\n")
         for at in range(len(lines)):
-            for text in (lines[:at] + lines[at + 1:], lines[:at] + lines[at:at + 1] + lines[at:], lines[:at] + [""] + lines[at:],
-                         lines[:at] + [lines[at].upper()] + lines[at + 1:], lines[:at] + [lines[at] + " "] + lines[at + 1:],
-                         lines[:at] + [" " + lines[at]] + lines[at + 1:], lines[:at] + [lines[at].replace(" ", "  ", 1)] + lines[at + 1:],
+            for text in (lines[:at] + lines[at + 1:], lines[:at] + lines[at:at + 1] + lines[at:],
+                         lines[:at] + [""] + lines[at:],
+                         lines[:at] + [lines[at].upper()] + lines[at + 1:],
+                         lines[:at] + [lines[at] + " "] + lines[at + 1:],
+                         lines[:at] + [" " + lines[at]] + lines[at + 1:], lines[:at] + [lines[at].replace(" ", "  ",
+                                                                                                          1)] + lines[at + 1:],
                          lines[:at], lines[:at] + lines[at + 1:at + 2] + lines[at:at + 1] + lines[at + 2:]):
                 self.as_by_patterns("\n".join(text))
 
@@ -197,12 +206,18 @@ class TextTest(unittest.TestCase):
 
     def test_texts_that_end_too_soon(self):
         for text, at in (
-            ("", 0), ("\n", 0), (" ", 0), ("part", 0), ("part ", 0), ("part a", 1), ("part a\n", 1), ("part a\n00", 1), ("part a\n00 ", 1),
-            ("part a\n00 put", 1), ("part a\n00 put ", 1), ("part a\n00 back\n", 2), ("part a\n00 back\npart b", 3), ("part a\n00 back\npart", 2),
-            ("part a\n00 back\npart b\n", 3), ("part a\n00 back\npart b\npart c\n00 back", 3), ("part a\npart b\n00 back", 1), ("00 back", 0),
-            ("part a\n01 back", 1), ("part a\n00 back\n00 back", 2), ("part a\n00 back\n02 back", 2), ("part a\n0 back", 1), ("part a\n000 back", 1),
-            ("part a\n00 back 0", 1), ("part a\n00 say a", 1), ("part a\n00 foo", 1), ("part a\n00 get", 1), ("part a\n00 get a b", 1), ("parts a\n00 back", 0),
-            ("Part a\n00 back", 0), ("part a\r\n00 back", 0), ("part a\n00\tback", 1), ("part a\n00 part", 1), ("part a\n00 back\n\npart b\n00 back", 2),
+            ("", 0), ("\n", 0), (" ", 0), ("part", 0), ("part ", 0), ("part a", 1), ("part a\n", 1), ("part a\n00", 1),
+            ("part a\n00 ", 1),
+            ("part a\n00 put", 1), ("part a\n00 put ", 1), ("part a\n00 back\n", 2), ("part a\n00 back\npart b", 3),
+            ("part a\n00 back\npart", 2),
+            ("part a\n00 back\npart b\n", 3), ("part a\n00 back\npart b\npart c\n00 back", 3),
+            ("part a\npart b\n00 back", 1), ("00 back", 0),
+            ("part a\n01 back", 1), ("part a\n00 back\n00 back", 2), ("part a\n00 back\n02 back", 2),
+            ("part a\n0 back", 1), ("part a\n000 back", 1),
+            ("part a\n00 back 0", 1), ("part a\n00 say a", 1), ("part a\n00 foo", 1), ("part a\n00 get", 1),
+            ("part a\n00 get a b", 1), ("parts a\n00 back", 0),
+            ("Part a\n00 back", 0), ("part a\r\n00 back", 0), ("part a\n00\tback", 1), ("part a\n00 part", 1),
+            ("part a\n00 back\n\npart b\n00 back", 2),
         ):
             self.no_text(text, at)
             self.assertEqual(wrong_row(text), at)
@@ -215,7 +230,8 @@ class TextTest(unittest.TestCase):
                 self.as_by_patterns(thing)
 
     def test_no_program_is_not_shown(self):
-        for thing in any_things() + [very_deep(), list(PROGRAM), PROGRAM + PROGRAM, TEXT, (("main", (), (("put", True),)),)]:
+        for thing in any_things() + [very_deep(), list(PROGRAM), PROGRAM + PROGRAM, TEXT,
+                                     (("main", (), (("put", True),)),)]:
             with self.assertRaises(NoProgram):
                 show_program(thing)
 

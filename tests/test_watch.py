@@ -80,9 +80,11 @@ class WatchTest(unittest.TestCase):
         watch.begin("main", (0,))
         self.assertEqual((watch.run(most=0), heard), (0, ["1 call main:0"]))
         self.assertEqual((watch.run(most=0), heard), (0, ["1 call main:0"]))
-        self.assertEqual((watch.run(most=3), heard[1:]), (3, ["1 row main:0", "1 row main:1", "1 row main:2", "2 call sub:0"]))
+        self.assertEqual((watch.run(most=3), heard[1:]), (3, ["1 row main:0", "1 row main:1", "1 row main:2",
+                                                              "2 call sub:0"]))
         self.assertEqual((watch.run(most=4), heard[5:]), (4, [
-            "2 row sub:0", "2 row sub:1", "2 row sub:2", "2 row sub:3", "2 fault sub:3 = 7", "1 fault main:2 = 7", "1 caught main:2 = 7"]))
+            "2 row sub:0", "2 row sub:1", "2 row sub:2", "2 row sub:3", "2 fault sub:3 = 7", "1 fault main:2 = 7",
+            "1 caught main:2 = 7"]))
         self.assertEqual((watch.said(), watch.end()), ([], None))
         self.assertEqual((watch.run(most=1), watch.said()), (1, [7]))
         self.assertEqual((watch.run(most=50), watch.end()), (2, ("back", 0)))
@@ -318,8 +320,10 @@ class HooksTest(unittest.TestCase):
             watch = Watch(PROGRAM, hooks=hooked)
             watch.begin("main", (0,))
             kept = everything(watch)
-            for thing in any_things() + [very_deep(), list(QUIET), QUIET[:2], ("main", ("row",), None), ("quiet", (), None), [QUIET], (QUIET,),
-                                         ("quiet", ("row",), ("main", True, 1)), ("quiet", ("row", "row"), None), ("quiet", ["row"], None)]:
+            for thing in any_things() + [very_deep(), list(QUIET), QUIET[:2], ("main", ("row",), None),
+                                         ("quiet", (), None), [QUIET], (QUIET,),
+                                         ("quiet", ("row",), ("main", True, 1)), ("quiet", ("row", "row"), None),
+                                         ("quiet", ["row"], None)]:
                 with self.assertRaises(NoHook):
                     watch.hook(thing)
                 if type(thing) is int and 0 <= thing < len(hooked):
@@ -349,7 +353,8 @@ class RefusalTest(unittest.TestCase):
                 continue
             with self.assertRaises(NoHook):
                 Watch(PROGRAM, hooks=thing)
-        for hooks in ([], [QUIET], list(HOOKS), HOOKS + (QUIET,), (QUIET, None), (QUIET, list(QUIET)), QUIET, (("main", ("row",), None),), None):
+        for hooks in ([], [QUIET], list(HOOKS), HOOKS + (QUIET,), (QUIET, None), (QUIET, list(QUIET)), QUIET,
+                      (("main", ("row",), None),), None):
             with self.assertRaises(NoHook):
                 Watch(PROGRAM, hooks=hooks)
 
@@ -406,13 +411,16 @@ class EarTest(unittest.TestCase):
 
     def test_inner(self):
         watch = Watch(PROGRAM, hooks=(("loud", ("row",), ("none", 0, 0)),))
-        plain, inner, rows = ears_told(watch), ears_told(watch, inner=True), ears_told(watch, inner=True, kinds=("row",))
+        plain, inner, rows = ears_told(watch), ears_told(watch, inner=True), ears_told(watch, inner=True,
+                                                                                       kinds=("row",))
         watch.begin("none")
         watch.run()
         self.assertEqual(plain, ["1 call none:0", "1 row none:0", "1 row none:1", "1 back none:1 = 0"])
         self.assertEqual(inner, [
-            "1 call none:0", "1 call loud:0", "1 row loud:0", "1 row loud:1", "1 row loud:2", "2 call none:0", "2 row none:0", "2 row none:1",
-            "2 back none:1 = 0", "1 row loud:3", "1 back loud:3 = 0", "1 row none:0", "1 row none:1", "1 back none:1 = 0"])
+            "1 call none:0", "1 call loud:0", "1 row loud:0", "1 row loud:1", "1 row loud:2", "2 call none:0",
+            "2 row none:0", "2 row none:1",
+            "2 back none:1 = 0", "1 row loud:3", "1 back loud:3 = 0", "1 row none:0", "1 row none:1",
+            "1 back none:1 = 0"])
         self.assertEqual(rows, [one for one in inner if " row " in one])
 
     def test_in_their_order(self):
@@ -428,15 +436,19 @@ class EarTest(unittest.TestCase):
     def test_the_row_and_worth_with_which_the_change_was_done(self):
         """Behind lead the row led to, behind turn the worth turned to."""
         program = (("main", ("n",), (("get", "n"), ("if", 4), ("put", 2), ("back",), ("put", 3), ("back",))),
-                   ("lead", ("k", "r", "w"), (("put", 4), ("lead",), *END)), ("turn", ("k", "r", "w"), (("put", 9), ("turn",), *END)))
+                   ("lead", ("k", "r", "w"), (("put", 4), ("lead",), *END)), ("turn", ("k", "r", "w"), (("put", 9),
+                                                                                                        ("turn",),
+                                                                                                        *END)))
         watch = Watch(program, hooks=(("lead", ("row",), ("main", 2, 2)), ("turn", ("back",), ("main", 0, 59))))
         heard = ears_told(watch)
         watch.begin("main", (0,))
         watch.run()
-        self.assertEqual(heard, ["1 call main:0", "1 row main:0", "1 row main:1", "1 row main:4", "1 row main:5", "1 back main:5 = 9"])
+        self.assertEqual(heard, ["1 call main:0", "1 row main:0", "1 row main:1", "1 row main:4", "1 row main:5",
+                                 "1 back main:5 = 9"])
         self.assertEqual(watch.end(), ("back", 9))
         throwing = (("main", (), (("try", 3), ("put", 2), ("throw",), ("back",))), program[2])
-        for kind, told in (("fault", ["1 fault main:2 = 9", "1 caught main:2 = 9"]), ("caught", ["1 fault main:2 = 2", "1 caught main:2 = 9"])):
+        for kind, told in (("fault", ["1 fault main:2 = 9", "1 caught main:2 = 9"]),
+                           ("caught", ["1 fault main:2 = 2", "1 caught main:2 = 9"])):
             watch = Watch(throwing, hooks=(("turn", (kind,), ("main", 0, 59)),))
             heard = ears_told(watch, kinds=("fault", "caught"))
             watch.begin("main")
@@ -503,10 +515,13 @@ class EarTest(unittest.TestCase):
 
         def ear(moment):
             for call in (
-                lambda: watch.begin("main", (0,)), lambda: watch.begin(None, None), lambda: watch.begin([]), lambda: watch.run(),
-                lambda: watch.run(most=0), lambda: watch.run(most=None), lambda: watch.put(NOTHING), lambda: watch.put(None),
+                lambda: watch.begin("main", (0,)), lambda: watch.begin(None, None), lambda: watch.begin([]),
+                lambda: watch.run(),
+                lambda: watch.run(most=0), lambda: watch.run(most=None), lambda: watch.put(NOTHING),
+                lambda: watch.put(None),
                 lambda: watch.hook(QUIET), lambda: watch.hook(None), lambda: watch.unhook(0), lambda: watch.unhook("x"),
-                lambda: watch.listen(lambda moment: None), lambda: watch.listen(None, kinds=None, inner=None), lambda: watch.deafen(0),
+                lambda: watch.listen(lambda moment: None), lambda: watch.listen(None, kinds=None, inner=None),
+                lambda: watch.deafen(0),
                 lambda: watch.deafen(9), lambda: watch.deafen(None),
             ):
                 kept = everything(watch)
@@ -530,7 +545,8 @@ class EarTest(unittest.TestCase):
             state = behind
         watch = Watch(PROGRAM, hooks=HOOKS)
         for _ in range(2):
-            watch.listen(lambda moment: told.append((watch.state(), watch.said(), watch.end(), watch.hooks())), inner=True)
+            watch.listen(lambda moment: told.append((watch.state(), watch.said(), watch.end(), watch.hooks())),
+                         inner=True)
         watch.begin("main", (0,))
         watch.run(most=3000)
         self.assertEqual(told[::2], states)

@@ -38,7 +38,8 @@ def quiet_hooks(source, program):
 
 
 PROGRAM = (
-    ("main", ("n",), (("get", "n"), ("say",), ("put", 1), ("back",), ("back",))), ("watch", ("k", "r", "w"), QUIET), ("none", (), QUIET),
+    ("main", ("n",), (("get", "n"), ("say",), ("put", 1), ("back",), ("back",))), ("watch", ("k", "r", "w"), QUIET),
+    ("none", (), QUIET),
 )
 UNSOUND = (*PROGRAM, ("wrong", (), (("add",),)))
 
@@ -65,7 +66,8 @@ TAKEN = (
     (rows_paper, (PROGRAM, "main", 0, 4), ((NoProgram,), (NoPart,), (NoRow,), (NoRow,))),
     (rows_paper, (UNSOUND, "wrong", 0, 0), ((NoProgram,), (NoPart,), (NoRow,), (NoRow,))),
     (run_paper, (PROGRAM, "main", (1,)), ((NoProgram,), (NoPart,), (NoNumbers,))),
-    (lambda program, part, hooks: run_paper(program, part, (1,), hooks=hooks), (PROGRAM, "main", ()), ((NoProgram,), (NoPart,), (NoHook,))),
+    (lambda program, part, hooks: run_paper(program, part, (1,), hooks=hooks), (PROGRAM, "main", ()),
+     ((NoProgram,), (NoPart,), (NoHook,))),
     (holds, (PROGRAM, part_paper(PROGRAM, "main")), ((NoProgram,), ())),
     (show_program, (PROGRAM,), ((NoProgram,),)),
     (read_program, (show_program(PROGRAM),), ((NoText,),)),
